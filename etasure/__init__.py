@@ -1,0 +1,1 @@
+"""Etasure: what holds for all n about coefficients of q-series."""
