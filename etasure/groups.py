@@ -1,6 +1,6 @@
 """Free generators of the matrices of a level, and the only path of them that leads to each matrix."""
 
-from etasure.checks import check_level, is_pair, is_within
+from etasure.checks import check_level, is_pair
 from etasure.errors import BadPath, TooMany
 from etasure.genus import elliptic, rank_of
 from etasure.matrices import IDENTITY, check_matrix_of, check_upright, matrix_power, product_of, upright

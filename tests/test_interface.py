@@ -1,0 +1,85 @@
+"""The interface: names, parameters, where they are defined, and which module imports from which ([3], [5], [6])."""
+
+import ast
+import importlib
+import inspect
+import pathlib
+import unittest
+
+PACKAGE = pathlib.Path(__file__).resolve().parent.parent / "etasure"
+
+# The modules of the interface that have landed, in its order, with their functions and parameters.
+MODULES = {
+    "rows": "is_row(thing) row_plus(one,other) row_times(one,other) row_inverse(row) row_power(row,k) row_spread(row,m)"
+            " row_section(row,m,t) row_woven(rows)",
+    "products": "product_row(powers,most) powers_of(row) weighted_sums(powers,most)",
+    "sparse": "triple_sum(m,s,sign,most) triple_product(m,s,sign,most) quintuple_sum(m,s,most)"
+              " quintuple_product(m,s,most)",
+    "matrices": "is_matrix(thing) is_cusp(thing) composed(one,other) inverted(matrix) upright(matrix)"
+                " moved(matrix,cusp)",
+    "words": "matrix_of(word) word_of(matrix) chain_of(matrix)",
+    "cosets": "index_of(level) point_for(level,c,d) all_points(level) point_of(level,matrix) matrix_at(level,pair)",
+    "cusps": "all_cusps(level) width_of(level,cusp) cusp_of(level,cusp) carried(level,one,other) turn_at(level,cusp)"
+             " fixed_cusp(level,matrix)",
+    "genus": "elliptic(level) cusp_count(level) genus_of(level) rank_of(level)",
+    "groups": "generators(level) is_path(level,thing) along(level,path) path_of(level,matrix)",
+    "conjugates": "conjugator(level,one,other)",
+    "quotients": "is_quotient(thing) pairs_of(quotient) weight_of(quotient) start_of(quotient) least_level(quotient)"
+                 " joined(one,other) raised(quotient,k) spread_out(quotient,m) row_of(quotient,most)",
+    "roots": "kronecker(a,n) dedekind(d,c) whole_root(matrix) root_of(matrix)",
+    "multipliers": "multiplier(quotient,matrix)",
+}
+ORDER = """errors rows products sparse matrices words cosets cusps genus groups conjugates quotients roots multipliers
+classes orders lattice units eisenstein pieces terms sums alikeness equal relations divisible wholes modulo progress
+ramanujan towers hecke multiplied forms divided periods narrow mixed identities partitions families pairings texts
+desk""".split()
+
+
+def imported_modules(name):
+    """The modules of the package that a module imports from."""
+    tree = ast.parse((PACKAGE / f"{name}.py").read_text())
+    return [node.module.split(".")[1] for node in tree.body
+            if isinstance(node, ast.ImportFrom) and node.module.startswith("etasure.")]
+
+
+def reached_modules(name):
+    """The same, with what those import from."""
+    reached = []
+    for near in imported_modules(name):
+        reached.extend([near] + reached_modules(near))
+    return reached
+
+
+class TestInterface(unittest.TestCase):
+
+    def test_functions_and_parameters(self):
+        for name, listed in MODULES.items():
+            module = importlib.import_module(f"etasure.{name}")
+            for entry in listed.split():
+                function_name, parameters = entry[:-1].split("(")
+                function = getattr(module, function_name)
+                self.assertTrue(inspect.isfunction(function))
+                self.assertEqual(function.__module__, f"etasure.{name}")
+                self.assertEqual(list(inspect.signature(function).parameters), parameters.split(","))
+                for parameter in inspect.signature(function).parameters.values():
+                    self.assertIs(parameter.kind, inspect.Parameter.POSITIONAL_OR_KEYWORD)
+
+    def test_order_of_modules(self):
+        for path in sorted(PACKAGE.glob("*.py")):
+            for near in reached_modules(path.stem):
+                if path.stem in ORDER and near in ORDER:
+                    self.assertLess(ORDER.index(near), ORDER.index(path.stem), f"{path.stem} imports {near}")
+
+    def test_the_package_itself_defines_nothing(self):
+        tree = ast.parse((PACKAGE / "__init__.py").read_text())
+        self.assertEqual([type(node) for node in tree.body], [ast.Expr])
+
+    def test_importing_prints_nothing_and_reads_nothing(self):
+        for path in sorted(PACKAGE.glob("*.py")):
+            tree = ast.parse(path.read_text())
+            names = {node.id for node in ast.walk(tree) if isinstance(node, ast.Name)}
+            self.assertFalse(names & {"print", "open", "input", "eval", "exec"}, path.name)
+
+
+if __name__ == "__main__":
+    unittest.main()
