@@ -4,7 +4,7 @@ from math import gcd
 
 
 def bezout(a, b):
-    """(g, x, y) with g = a * x + b * y, the greatest common divisor, from 0 on."""
+    """(g, x, y) with g = a * x + b * y, the greatest common divisor; b is above 0, or 0 and a is above 0."""
     x, next_x = 1, 0
     y, next_y = 0, 1
     while b != 0:
@@ -12,8 +12,6 @@ def bezout(a, b):
         a, b = b, a - times * b
         x, next_x = next_x, x - times * next_x
         y, next_y = next_y, y - times * next_y
-    if a < 0:
-        return -a, -x, -y
     return a, x, y
 
 

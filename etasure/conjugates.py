@@ -1,7 +1,7 @@
 """Which matrices of a level are the same but for a change of coordinates of the level."""
 
 from etasure.checks import check_level
-from etasure.groups import check_small, path_of, product_along
+from etasure.groups import path_of, product_along
 from etasure.matrices import check_matrix_of, inverted, product_of, upright
 from etasure.skeleton import Skeleton
 from etasure.steps import core_of, inverse_steps, turning_from
@@ -12,8 +12,7 @@ def conjugator(level, one, other):
     check_level(level)
     check_matrix_of(level, one)
     check_matrix_of(level, other)
-    check_small(level)
-    paths = [path_of(level, upright(matrix)) for matrix in (one, other)]
+    paths = [path_of(level, upright(given)) for given in (one, other)]
     basis = Skeleton(level).basis
     steps = conjugating_steps(paths[0], paths[1], [order for _, order in basis])
     if steps is None:

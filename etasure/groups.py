@@ -113,7 +113,7 @@ def _add_turn(turns, turn):
 
 
 def steps_along(skeleton, turns):
-    """The steps by generators that a walk from the base makes, which S and powers of U lead back there."""
+    """The steps by generators of a walk from the base, which the turns lead along and back there."""
     orders = [order for _, order in skeleton.basis]
     steps = []
     at = skeleton.base
@@ -129,8 +129,7 @@ def steps_along(skeleton, turns):
             at = skeleton.flips[at]
         else:
             at = skeleton.turns[at] if turn == 1 else skeleton.backs[at]
-    if not is_near:
-        _cross(steps, skeleton.edge_places[at], False, orders)
+    # The edge at the base belongs to the tree, so it does not matter at which end of it the walk stops.
     return steps
 
 
