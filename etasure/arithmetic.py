@@ -1,6 +1,6 @@
 """Divisors, primes and inverses of whole numbers, used by many modules."""
 
-from math import gcd
+from math import gcd, isqrt
 
 
 def bezout(a, b):
@@ -21,8 +21,9 @@ def inverse_modulo(a, m):
 
 
 def divisors_of(n):
-    """The ascending list of the divisors of n, from 1 on; n is small."""
-    return [d for d in range(1, n + 1) if n % d == 0]
+    """The ascending list of the divisors of n, from 1 on."""
+    small = [d for d in range(1, isqrt(n) + 1) if n % d == 0]
+    return small + [n // d for d in small[::-1] if d * d != n]
 
 
 def primes_of(n):
@@ -41,3 +42,28 @@ def primes_of(n):
 def phi(n):
     """How many numbers from 1 to n have no common divisor with n; n is small."""
     return len([u for u in range(1, n + 1) if gcd(u, n) == 1])
+
+
+def power_of(base, exponent):
+    """base to the exponent, a number from 0 on."""
+    power = 1
+    for _ in range(exponent):
+        power *= base
+    return power
+
+
+def square_free(n):
+    """The product of the primes that are in n an odd number of times; n is small."""
+    free = 1
+    for p in primes_of(n):
+        while n % (p * p) == 0:
+            n //= p * p
+        if n % p == 0:
+            free *= p
+    return free
+
+
+def free_product(one, other):
+    """The product of two square-free numbers, of either sign, without the squares in it."""
+    common = gcd(one, other)
+    return (one // common) * (other // common)

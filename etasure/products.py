@@ -15,12 +15,15 @@ def check_powers(powers):
 
 def product_row(powers, most):
     """The row of the product of (1 - q ** n) ** -en, the powers being e1, e2, .. and 0 beyond."""
-    check_powers(powers)
-    check_most(most)
-    sums = weighted_sums(powers, most)[1:]
+    return row_from_sums(weighted_sums(powers, most))
+
+
+def row_from_sums(sums):
+    """The row a, as long and beginning with 1, for which n * a[n] is the sum of sums[k] * a[n - k] over k from 1 on."""
+    later = sums[1:]
     row = [1]
-    for n in range(1, most + 1):
-        total = sum([x * y for x, y in zip(sums, row[::-1])])
+    for n in range(1, len(sums)):
+        total = sum([x * y for x, y in zip(later, row[::-1])])
         row.append(total // n)
     return row
 
@@ -53,8 +56,14 @@ def weighted_sums(powers, most):
     """For n from 0 to most the sum of d * ed over all divisors d of n."""
     check_powers(powers)
     check_most(most)
-    sums = [0] * (most + 1)
-    for d, power in enumerate(powers[:most], start=1):
-        for n in range(d, most + 1, d):
-            sums[n] += d * power
+    return sums_over_divisors(powers, most + 1)
+
+
+def sums_over_divisors(powers, size):
+    """For n from 0 to size - 1 the sum of d * ed over all divisors d of n, the powers being e1, e2, .."""
+    sums = [0] * size
+    for d, power in enumerate(powers[:size - 1], start=1):
+        if power != 0:
+            for n in range(d, size, d):
+                sums[n] += d * power
     return sums

@@ -4,7 +4,7 @@ from math import lcm
 
 from etasure.checks import GREATEST_LEVEL, check_most, is_within
 from etasure.errors import BadNumber, BadQuotient, TooMany
-from etasure.products import product_row
+from etasure.products import row_from_sums, sums_over_divisors
 from etasure.ratios import ratio_of
 
 GREATEST_FACTOR = 360
@@ -97,8 +97,13 @@ def row_of(quotient, most):
     """The row of the coefficients of the quotient behind the exponent of its first term."""
     check_quotient(quotient)
     check_most(most)
-    powers = [0] * (most + 1)
+    return quotient_series(quotient, most + 1)
+
+
+def quotient_series(quotient, size):
+    """As row_of, as many coefficients as size tells."""
+    powers = [0] * size
     for d, r in quotient.items():
-        for n in range(d, most + 1, d):
+        for n in range(d, size, d):
             powers[n] -= r
-    return product_row(powers[1:], most)
+    return row_from_sums(sums_over_divisors(powers[1:], size))

@@ -3,6 +3,7 @@
 import copy
 import inspect
 import unittest
+from fractions import Fraction
 
 from etasure.errors import TooMany
 
@@ -136,3 +137,66 @@ class Case(unittest.TestCase):
         for thing in wrong + STRANGE:
             if not any(thing is other for other in right):
                 self.assertIs(function(*ahead, thing), False, f"{function.__name__}: {type(thing)}")
+
+
+NO_RATIOS = [
+    None, True, 1, 0, 1.5, "1/2", (), (1,), (1, 2, 3), [1, 2], (2, 4), (0, 2), (0, 0), (1, 0), (1, -1), (-1, -2),
+    (True, 1), (1, True), (1.0, 2), (1, 2.0), (None, 1), {1: 2}, object(), Stubborn(), (Stubborn(), 1),
+]
+NO_PIECES = [
+    None, True, 1, "two", (), ("two",), ("two", 1), ("two", 0), ("two", 361), ("two", True), ("two", 2.0), ["two", 2],
+    ("two", 2, ()), ("four", 0), ("four", 361), ("four", "1"), ("four", 1, 1), ("six", -1), ("six", None), ("eight", 1),
+    ("part", 2), ("part", 1, ((1, 24),)), ("part", 61, ((1, 24),)), ("part", 2, [(1, 24)]), ("part", 2, ([1, 24],)),
+    ("part", 2, {1: 24}), ("part", 2, ((1, 24), (1, 24))), ("part", 2, ((2, 24), (1, 24))), ("part", 2, ((1, 0),)),
+    ("part", 2, ((1, 100),)), ("part", 2, ((1, 12),)), ("part", 2, ((1, 1), (24, 1))), ("part", 2, ((0, 24),)),
+    ("part", True, ((1, 24),)), ("part", 2, ((1, True),)), ("part", 2, ((1, 24.0),)), ("part", 47, ((3, 8),)),
+    ("part", 2, ((361, 24),)), ("part", 7, ((1, -1), (5, 5), (11, 24))), ("part", 59, ((7, 24),)), ("part", 2, (1, 24)),
+    ("part", 2, ((1, 24),), ()), (1, 2), (None, 2), (Stubborn(), 2), ("two", Stubborn()), ("part", Stubborn(), ()),
+    ("part", 2, Stubborn()), ("part", 2, (Stubborn(),)), ("part", 2, ((Stubborn(), 1),)), {"two": 2}, Stubborn(),
+]
+NO_TERMS = [
+    None, True, 1, "one", (), (1, {}), (1, {}, (), ()), [1, {}, ()], (0, {}, ()), (True, {}, ()), (1.0, {}, ()),
+    (10 ** 60 + 1, {}, ()), (-(10 ** 60) - 1, {}, ()), (None, {}, ()), (1, None, ()), (1, {0: 1}, ()), (1, {1: 0}, ()),
+    (1, {1: 100}, ()), (1, {19: 1, 20: 1}, ()), (1, ((1, 1),), ()), (1, {}, None), (1, {}, []), (1, {}, {}),
+    (1, {}, (("two", 1),)), (1, {}, ("four", 1)), (1, {}, (("six", 1), ("four", 1))),
+    (1, {}, (("four", 2), ("four", 1))), (1, {}, (("four", 1),) * 7), (1, {7: 1}, (("four", 52),)),
+    (1, {}, (("two", 19), ("two", 20))), (1, {37: 1}, (("part", 20, ((1, 24),)),)), (1, {}, (["four", 1],)),
+    (Stubborn(), {}, ()), (1, Stubborn(), ()), (1, {}, Stubborn()), (1, {}, (Stubborn(),)), {}, object(), Stubborn(),
+]
+NO_SUMS = [
+    None, True, 1, "zero", {}, (1, {}, ()), [1], [(1, {}, ()), None], [(0, {}, ())], [[1, {}, ()]], ["term"],
+    [(1, {}, ())] * 41, ((1, {}, ()),) * 41, range(0), iter([]), {(1, (), ())}, object(), Stubborn(), [Stubborn()],
+    [(1, {361: 1}, ())], [[]],
+]
+
+
+def fraction(ratio):
+    """The fraction that a ratio stands for."""
+    return Fraction(ratio[0], ratio[1])
+
+
+def ratio(worth):
+    """The ratio that stands for a fraction or a whole number."""
+    return (Fraction(worth).numerator, Fraction(worth).denominator)
+
+
+def divisors(n):
+    return [d for d in range(1, n + 1) if n % d == 0]
+
+
+def turned_in(thing):
+    """The same with the keys of all dicts in another sequence."""
+    if isinstance(thing, dict):
+        return {key: turned_in(thing[key]) for key in reversed(list(thing))}
+    if isinstance(thing, (list, tuple)):
+        return type(thing)([turned_in(part) for part in thing])
+    return thing
+
+
+class TurnedCase(Case):
+    """A test case in which, besides, the sequence of the keys of dicts that are handed in has no meaning."""
+
+    def tell(self, function, *arguments):
+        told = Case.tell(self, function, *arguments)
+        self.assert_same(function(*[turned_in(argument) for argument in arguments]), told)
+        return told

@@ -28,6 +28,18 @@ MODULES = {
                  " joined(one,other) raised(quotient,k) spread_out(quotient,m) row_of(quotient,most)",
     "roots": "kronecker(a,n) dedekind(d,c) whole_root(matrix) root_of(matrix)",
     "multipliers": "multiplier(quotient,matrix)",
+    "classes": "alike(level,one,other) parting(level,one,other) class_order(level,quotient) plain_sign(level,quotient)",
+    "orders": "order_at(quotient,c) all_orders(level,quotient) local_orders(level,quotient) is_holomorphic(quotient)",
+    "lattice": "quotients_above(level,twice,lows) holomorphic_ones(level,twice)",
+    "units": "with_orders(level,wanted) unit_basis(level) in_units(level,quotient) unit_with(level,wanted)"
+             " unit_classes(level)",
+    "eisenstein": "divisor_sum(n,k) eisenstein_row(weight,most)",
+    "pieces": "is_piece(thing) piece_weight(piece) piece_level(piece) piece_sign(piece) piece_start(piece)"
+              " piece_row(piece,most) piece_least(piece,c)",
+    "terms": "is_term(thing) term_level(term) term_twice(term) term_start(term) term_row(term,most)"
+             " term_least(term,c) term_multiplier(term,matrix) term_times(one,other)",
+    "sums": "is_sum(thing) sum_level(terms) coefficients(terms,last) collected(terms) sum_times(one,other)"
+            " slope(quotient)",
 }
 ORDER = """errors rows products sparse matrices words cosets cusps genus groups conjugates quotients roots multipliers
 classes orders lattice units eisenstein pieces terms sums alikeness equal relations divisible wholes modulo progress
