@@ -67,3 +67,11 @@ def free_product(one, other):
     """The product of two square-free numbers, of either sign, without the squares in it."""
     common = gcd(one, other)
     return (one // common) * (other // common)
+
+
+def greatest_divisor(numbers):
+    """The greatest common divisor of the numbers, 0 if all are 0."""
+    common = 0
+    for x in numbers:
+        common = gcd(common, x)
+    return common

@@ -2,10 +2,12 @@
 
 from math import lcm
 
+from etasure.arithmetic import greatest_divisor
 from etasure.checks import GREATEST_LEVEL, check_most, is_within
 from etasure.errors import BadNumber, BadQuotient, TooMany
 from etasure.products import row_from_sums, sums_over_divisors
 from etasure.ratios import ratio_of
+from etasure.series import series_spread
 
 GREATEST_FACTOR = 360
 GREATEST_EXPONENT = 99
@@ -102,6 +104,10 @@ def row_of(quotient, most):
 
 def quotient_series(quotient, size):
     """As row_of, as many coefficients as size tells."""
+    step = greatest_divisor(list(quotient))
+    if step > 1:
+        inner = {d // step: r for d, r in quotient.items()}
+        return series_spread(quotient_series(inner, (size - 1) // step + 1), step, size)
     powers = [0] * size
     for d, r in quotient.items():
         for n in range(d, size, d):

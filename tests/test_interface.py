@@ -40,6 +40,19 @@ MODULES = {
              " term_least(term,c) term_multiplier(term,matrix) term_times(one,other)",
     "sums": "is_sum(thing) sum_level(terms) coefficients(terms,last) collected(terms) sum_times(one,other)"
             " slope(quotient)",
+    "alikeness": "same_class(level,one,other) parted_by(level,one,other) class_places(level,terms)"
+                 " class_bound(level,terms)",
+    "equal": "first_exponent(level,terms) is_zero(level,terms) first_unlike(level,one,other) sum_paper(level,terms)"
+             " is_sum_paper(level,terms,thing)",
+    "relations": "relations(level,terms) free_places(level,terms) sum_rank(level,terms)"
+                 " combination(level,target,terms) against(level,target,terms)",
+    "divisible": "content(level,terms) balance(level,terms) is_balance(level,terms,thing)"
+                 " first_undivided(level,terms,u) first_incongruent(level,one,other,u)",
+    "wholes": "is_whole(level,terms,ratios) whole_rows(level,terms) gaps(level,terms)",
+    "modulo": "relations_modulo(level,terms,p) unit_modulo(u) lifted(term,u,j) meeting(level,terms,u)"
+              " first_not_modulo(level,terms,u)",
+    "progress": "progression(quotient,m,t,most) fits(quotient,m,t) fitting(quotient,m) progression_term(quotient,m,t)"
+                " content_of(quotient,m,t) last_needed(quotient,m,t) first_not(quotient,m,t,u) parted(one,other)",
 }
 ORDER = """errors rows products sparse matrices words cosets cusps genus groups conjugates quotients roots multipliers
 classes orders lattice units eisenstein pieces terms sums alikeness equal relations divisible wholes modulo progress
