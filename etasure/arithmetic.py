@@ -1,6 +1,6 @@
 """Divisors, primes and inverses of whole numbers, used by many modules."""
 
-from math import gcd, isqrt
+from math import gcd, isqrt, lcm
 
 
 def bezout(a, b):
@@ -74,4 +74,12 @@ def greatest_divisor(numbers):
     common = 0
     for x in numbers:
         common = gcd(common, x)
+    return common
+
+
+def lcm_of(numbers):
+    """The least common multiple of what is gone over, 1 for nothing."""
+    common = 1
+    for n in numbers:
+        common = lcm(common, n)
     return common

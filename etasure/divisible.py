@@ -1,11 +1,11 @@
 """What divides the coefficients of a sum at all exponents."""
 
 from etasure.arithmetic import bezout, greatest_divisor
-from etasure.checks import check_level, is_number, is_within
-from etasure.equal import are_known, check_level_and_sum
+from etasure.checks import is_number, is_within
+from etasure.equal import are_known, check_level_and_sum, check_two_sums
 from etasure.errors import BadNumber
 from etasure.ratios import is_ratio
-from etasure.sums import GREATEST_DISTANCE, check_bears, check_sum, coefficients_by_parts
+from etasure.sums import GREATEST_DISTANCE, coefficients_by_parts
 from etasure.tables import negated, one_table
 from etasure.terms import GREATEST_NUMBER
 
@@ -89,10 +89,6 @@ def place_undivided(numbers, u):
 
 def first_incongruent(level, one, other, u):
     """The least exponent at which the coefficients of both sums are unlike modulo u; None if there is none."""
-    check_level(level)
-    check_sum(one)
-    check_sum(other)
-    check_bears(level, one)
-    check_bears(level, other)
+    check_two_sums(level, one, other)
     check_divisor(u)
     return _least_undivided(one_table(level, list(one) + negated(other)), u)

@@ -16,6 +16,15 @@ def check_level_and_sum(level, terms):
     check_bears(level, terms)
 
 
+def check_two_sums(level, one, other):
+    """BadLevel, BadSum unless both are sums that the level bears."""
+    check_level(level)
+    check_sum(one)
+    check_sum(other)
+    check_bears(level, one)
+    check_bears(level, other)
+
+
 def first_exponent(level, terms):
     """The least exponent at which the coefficient of the sum is not 0; None if there is none."""
     check_level_and_sum(level, terms)
@@ -30,11 +39,7 @@ def is_zero(level, terms):
 
 def first_unlike(level, one, other):
     """The least exponent at which both sums have unlike coefficients; None if there is none."""
-    check_level(level)
-    check_sum(one)
-    check_sum(other)
-    check_bears(level, one)
-    check_bears(level, other)
+    check_two_sums(level, one, other)
     return least_exponent(level, list(one) + negated(other))
 
 

@@ -1,10 +1,10 @@
 """All quotients of a level whose orders are not below told ones: the whole points of a simplex."""
 
-from etasure.arithmetic import divisors_of, primes_of
+from etasure.arithmetic import divisors_of, lcm_of, primes_of
 from etasure.checks import check_level, is_within
 from etasure.cosets import index_of
 from etasure.errors import BadTwice
-from etasure.orders import check_orders, exponents_with, lcm_of, many_at, width_at
+from etasure.orders import check_orders, exponents_with, many_at, width_at
 from etasure.quotients import GREATEST_EXPONENT, pairs_of
 from etasure.ratios import is_below, ratio_of, ratio_plus
 from etasure.sections import Section, whole_points

@@ -1,8 +1,8 @@
 """Orders of quotients at cusps, and the exponents that have told orders."""
 
-from math import gcd, lcm
+from math import gcd
 
-from etasure.arithmetic import divisors_of, phi, primes_of
+from etasure.arithmetic import divisors_of, lcm_of, phi, primes_of
 from etasure.checks import is_number
 from etasure.classes import check_borne_quotient
 from etasure.errors import BadNumber, BadOrders
@@ -28,14 +28,6 @@ def order_of(quotient, c):
     common = lcm_of(quotient)
     above = sum([r * gcd(c, d) * gcd(c, d) * (common // d) for d, r in quotient.items()])
     return ratio_of(above, 24 * common)
-
-
-def lcm_of(numbers):
-    """The least common multiple of what is gone over, 1 for nothing."""
-    common = 1
-    for n in numbers:
-        common = lcm(common, n)
-    return common
 
 
 def all_orders(level, quotient):

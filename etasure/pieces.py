@@ -2,12 +2,12 @@
 
 from math import gcd, lcm
 
-from etasure.arithmetic import divisors_of, free_product, primes_of
+from etasure.arithmetic import divisors_of, free_product, lcm_of, primes_of
 from etasure.checks import GREATEST_LEVEL, check_most, is_pair, is_within
 from etasure.classes import far_sum, near_sum, signed_factor
 from etasure.eisenstein import eisenstein_series
 from etasure.errors import BadPiece, TooMany
-from etasure.orders import check_denominator, lcm_of, order_of
+from etasure.orders import check_denominator, order_of
 from etasure.quotients import is_quotient, quotient_series
 from etasure.ratios import least_ratio, ratio_of
 from etasure.series import series_spread

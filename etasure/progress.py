@@ -9,9 +9,10 @@ from etasure.divisible import check_divisor, place_undivided
 from etasure.equal import least_exponent
 from etasure.errors import BadPair, BadStep, NotFit, TooMany
 from etasure.pieces import GREATEST_SECTION, LAST_NEEDED, part_level
-from etasure.quotients import GREATEST_EXPONENT, check_quotient, is_quotient, quotient_series
+from etasure.quotients import (GREATEST_EXPONENT, check_quotient, is_quotient, product_of_quotients,
+                               quotient_series)
 from etasure.tables import negated, one_table
-from etasure.terms import level_of_term, product_of_quotients, start_parts
+from etasure.terms import level_of_term, start_parts
 
 
 def check_modulus(m):

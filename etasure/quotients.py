@@ -1,8 +1,6 @@
 """Quotients: products of eta(d * tau) ** r, as dicts from d to r."""
 
-from math import lcm
-
-from etasure.arithmetic import greatest_divisor
+from etasure.arithmetic import greatest_divisor, lcm_of
 from etasure.checks import GREATEST_LEVEL, check_most, is_within
 from etasure.errors import BadNumber, BadQuotient, TooMany
 from etasure.products import row_from_sums, sums_over_divisors
@@ -52,9 +50,7 @@ def start_of(quotient):
 def least_level(quotient):
     """The least level that bears the quotient."""
     check_quotient(quotient)
-    level = 1
-    for d in quotient:
-        level = lcm(level, d)
+    level = lcm_of(quotient)
     if level > GREATEST_LEVEL:
         raise TooMany(GREATEST_LEVEL)
     return level
@@ -64,10 +60,15 @@ def joined(one, other):
     """The product of both quotients."""
     check_quotient(one)
     check_quotient(other)
+    return bounded_quotient(product_of_quotients(one, other))
+
+
+def product_of_quotients(one, other):
+    """The product of both, with ascending keys and exponents of any size."""
     exponents = {d: one[d] for d in one}
     for d, r in other.items():
         exponents[d] = exponents.get(d, 0) + r
-    return _bounded(exponents)
+    return {d: exponents[d] for d in sorted(exponents) if exponents[d] != 0}
 
 
 def raised(quotient, k):
@@ -75,10 +76,10 @@ def raised(quotient, k):
     check_quotient(quotient)
     if not is_within(k, -GREATEST_EXPONENT, GREATEST_EXPONENT):
         raise BadNumber("k is a number from -99 to 99")
-    return _bounded({d: r * k for d, r in quotient.items()})
+    return bounded_quotient({d: r * k for d, r in quotient.items()})
 
 
-def _bounded(exponents):
+def bounded_quotient(exponents):
     """The quotient with these exponents, 0 left out; TooMany(99) if one is beyond the bounds."""
     if not all([abs(r) <= GREATEST_EXPONENT for r in exponents.values()]):
         raise TooMany(GREATEST_EXPONENT)

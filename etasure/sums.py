@@ -1,8 +1,8 @@
 """Sums of terms."""
 
-from etasure.errors import BadLevel, BadPair, BadQuotient, BadRatio, BadSum, TooMany
+from etasure.arithmetic import lcm_of
 from etasure.checks import GREATEST_LEVEL
-from etasure.orders import lcm_of
+from etasure.errors import BadLevel, BadPair, BadQuotient, BadRatio, BadSum, TooMany
 from etasure.quotients import is_quotient, pairs_of
 from etasure.ratios import is_ratio, ratio_of
 from etasure.terms import is_term, level_of_term, product_of_terms, row_of_term, start_parts

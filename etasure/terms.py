@@ -2,14 +2,15 @@
 
 from math import lcm
 
+from etasure.arithmetic import lcm_of
 from etasure.checks import GREATEST_LEVEL, check_most, is_within
 from etasure.errors import BadMatrix, BadPair, BadTerm
 from etasure.matrices import check_upright
 from etasure.multipliers import multiplier
-from etasure.orders import check_denominator, lcm_of, order_of
+from etasure.orders import check_denominator, order_of
 from etasure.pieces import (check_reach, is_piece, least_of_piece, level_of_piece, piece_series, sign_of_piece,
                             start_of_piece, weight_of_piece)
-from etasure.quotients import is_quotient, quotient_series
+from etasure.quotients import is_quotient, product_of_quotients, quotient_series
 from etasure.ratios import ratio_of, ratio_plus
 from etasure.roots import kronecker
 from etasure.series import series_times
@@ -130,11 +131,3 @@ def term_times(one, other):
 def product_of_terms(one, other):
     """The product of both, which may be no term."""
     return (one[0] * other[0], product_of_quotients(one[1], other[1]), tuple(sorted(one[2] + other[2])))
-
-
-def product_of_quotients(one, other):
-    """The product of both, with exponents of any size."""
-    exponents = {d: one[d] for d in one}
-    for d, r in other.items():
-        exponents[d] = exponents.get(d, 0) + r
-    return {d: exponents[d] for d in sorted(exponents) if exponents[d] != 0}

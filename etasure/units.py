@@ -1,13 +1,12 @@
 """Units: quotients of a level that no matrix of it changes; quotients with told orders."""
 
-from etasure.arithmetic import divisors_of, primes_of
+from etasure.arithmetic import divisors_of, lcm_of, primes_of
 from etasure.checks import check_level, is_number
 from etasure.classes import check_borne_quotient, order_of_class
-from etasure.errors import BadOrders, TooMany
+from etasure.errors import BadOrders
 from etasure.hermite import elementary_divisors, parts_in, steps_of, sublattice
-from etasure.orders import (check_orders, exponents_with, has_divisors, lcm_of, local_orders_of, many_at,
-                            width_at)
-from etasure.quotients import GREATEST_EXPONENT
+from etasure.orders import check_orders, exponents_with, has_divisors, local_orders_of, many_at, width_at
+from etasure.quotients import bounded_quotient
 from etasure.ratios import ratio_of
 
 
@@ -16,7 +15,7 @@ def with_orders(level, wanted):
     check_level(level)
     check_orders(level, wanted)
     exponents, k = _whole_exponents(level, wanted)
-    return (_bounded(exponents), k)
+    return (bounded_quotient(exponents), k)
 
 
 def _whole_exponents(level, wanted):
@@ -24,13 +23,6 @@ def _whole_exponents(level, wanted):
     ratios = exponents_with(level, wanted)
     k = lcm_of([below for _, below in ratios.values()])
     return {d: k // ratios[d][1] * ratios[d][0] for d in ratios}, k
-
-
-def _bounded(exponents):
-    """The quotient with these exponents; TooMany(99) if one is beyond the bounds."""
-    if not all([abs(r) <= GREATEST_EXPONENT for r in exponents.values()]):
-        raise TooMany(GREATEST_EXPONENT)
-    return {d: exponents[d] for d in sorted(exponents) if exponents[d] != 0}
 
 
 def unit_basis(level):
@@ -79,7 +71,7 @@ def unit_with(level, wanted):
     orders = {c: ratio_of(wanted[c], width_at(level, c)) for c in wanted}
     exponents, k = _whole_exponents(level, orders)
     times = order_of_class(level, exponents)
-    return (_bounded({d: times * r for d, r in exponents.items()}), times * k)
+    return (bounded_quotient({d: times * r for d, r in exponents.items()}), times * k)
 
 
 def _check_numbers(level, wanted):

@@ -1,10 +1,10 @@
 """Which sums of ratios times terms have whole coefficients at all exponents."""
 
+from etasure.arithmetic import lcm_of
 from etasure.echelons import dot
 from etasure.equal import check_level_and_sum
 from etasure.errors import BadRow
 from etasure.hermite import elementary_divisors, steps_of
-from etasure.orders import lcm_of
 from etasure.ratios import is_ratio, ratio_less, ratio_of, ratio_times
 from etasure.relations import free_columns
 from etasure.tables import one_table

@@ -5,7 +5,7 @@ from fractions import Fraction
 from math import isqrt, lcm
 
 from etasure.errors import SeriesError
-from etasure.sums import collected, is_sum, slope, sum_level, sum_times
+from etasure.sums import collected, is_sum, slope, sum_times
 from tests.test_classes import multiplied
 from tests.test_pieces import FIVE
 from tests.test_sums import JACOBI, MODULAR

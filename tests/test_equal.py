@@ -10,7 +10,7 @@ from etasure.equal import first_exponent, first_unlike, is_sum_paper, is_zero, s
 from etasure.errors import BadLevel, BadSum
 from etasure.quotients import row_of
 from etasure.sums import coefficients, is_sum, sum_level
-from etasure.terms import term_level, term_row, term_start
+from etasure.terms import term_row, term_start
 from tests.helpers import NO_LEVELS, NO_SUMS, STRANGE, TurnedCase, fraction, ratio
 from tests.identities_at_hand import MULTIPLIED, ZEROS, at_multiple, has_parts, slopes, times, turned_around
 from tests.test_sums import JACOBI, MODULAR, slow_coefficients
