@@ -41,7 +41,9 @@ def _quotients_in(level, twice, lows):
         return []
     keys = _sequence(level)
     scale = lcm_of([ratio[1] for corner in corners for ratio in corner.values()])
-    section = Section({0: [1] + [-1] * (len(corners) - 1)}, range(1, len(corners)), range(len(corners)), 1)
+    numbers = list(range(len(corners)))
+    # Shares of the corners, that come to 1, seen from the first corner.
+    section = Section({0: [1] + [-1] * (len(corners) - 1)}, numbers[1:], numbers, 1)
     tables = [{d: scale // corner[d][1] * corner[d][0] for d in corner} for corner in corners]
     for d in keys:
         section.rows[-d] = _row_of([sum([table[m] for m in keys if m % d == 0]) for table in tables])

@@ -14,6 +14,7 @@ from etasure.series import series_spread
 
 GREATEST_SECTION = 60
 LAST_NEEDED = 6000
+WEIGHTS = {"two": 2, "four": 4, "six": 6}
 
 
 def is_piece(thing):
@@ -63,7 +64,7 @@ def weight_of_piece(piece):
     """As piece_weight, of what is known to be a piece."""
     if piece[0] == "part":
         return sum([r for _, r in piece[2]]) // 2
-    return {"two": 2, "four": 4, "six": 6}[piece[0]]
+    return WEIGHTS[piece[0]]
 
 
 def piece_level(piece):

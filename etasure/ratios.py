@@ -43,11 +43,3 @@ def least_ratio(ratios):
         if is_below(ratio, least):
             least = ratio
     return least
-
-
-def ratio_sum(ratios):
-    """The sum of ratios."""
-    total = (0, 1)
-    for ratio in ratios:
-        total = ratio_plus(total, ratio)
-    return total

@@ -1,6 +1,5 @@
 """All linear relations between terms that hold at all exponents."""
 
-from etasure.alikeness import check_one
 from etasure.checks import check_level
 from etasure.echelons import echelon_of, kernel_of, whole_relations
 from etasure.equal import check_level_and_sum
@@ -65,7 +64,6 @@ def _joint_table(level, target, terms):
     check_sum(terms)
     joint = list(terms) + [target]
     check_bears(level, joint)
-    check_one(level, joint)
     return one_table(level, joint)
 
 

@@ -84,7 +84,6 @@ def _check_numbers(level, wanted):
 
 def unit_classes(level):
     """The orders of the cyclic groups whose product is that of all wanted orders modulo those of units."""
-    check_level(level)
     table = []
     for unit in unit_basis(level):
         orders = local_orders_of(level, unit)

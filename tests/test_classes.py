@@ -100,16 +100,20 @@ class TestAlike(TurnedCase):
                 self.check_parting(level, one, other, told)
 
     def test_parted_by_the_square_alone(self):
-        for level, one, other in ((5, {1: 24, 5: 1}, {1: 1, 5: 24}), (8, {2: 12, 1: 12, 8: 24}, {8: 12, 1: 36}),
-                                  (360, {1: 99, 5: -75}, {360: 12, 72: 12}), (13, {1: 13, 13: -1}, {1: 12})):
-            told = alike(level, one, other)
-            self.assertIs(told, conditions_hold(level, one, other))
-            self.check_parting(level, one, other, told)
-        for level in (5, 8, 12, 13, 17, 24, 60, 360):
-            for p in (2, 3, 5, 13, 17):
-                if level % p == 0:
-                    one, other = {p: 12}, {1: 12}
-                    self.check_parting(level, one, other, alike(level, one, other))
+        parted = 0
+        for level in (8, 12, 20, 24, 28, 40, 60, 72, 120, 360):
+            plain = {}
+            for _ in range(3000):
+                quotient = some_borne(level, 3)
+                sign = plain_sign(level, quotient)
+                if sign is not None:
+                    plain.setdefault(sum(quotient.values()), []).append((sign, quotient))
+            for found in plain.values():
+                for (sign, one), (other_sign, other) in zip(found, found[1:]):
+                    parted += sign != other_sign
+                    self.assertIs(alike(level, one, other), sign == other_sign)
+                    self.check_parting(level, one, other, sign == other_sign)
+        self.assertGreater(parted, 5)
 
     def test_widest(self):
         wide = {d: 99 if at % 2 else -99 for at, d in enumerate(divisors(360))}

@@ -154,6 +154,9 @@ class TestBalance(TurnedCase):
         self.assertIs(is_balance(24, terms, {(-1, 1): 1, (71989, 24): 7}), False)
         self.assertIs(is_balance(24, terms, {(-1, 1): 1, (10 ** 40, 7): 7}), False)
         self.assertIs(is_balance(24, terms, {(-1, 1): 1, (-(10 ** 40), 7): 7}), True)
+        terms = [(5, {1: -1}, ())]
+        self.assertIs(is_balance(1, terms, {(-1, 24): 190569293, (2399, 24): -1}), True)
+        self.assertIs(is_balance(1, terms, {(-1, 24): 190569292, (2399, 24): -1}), False)
         first = balance(30, [LONG])
         self.assertIs(is_balance(30, [LONG], first), True)
         self.assertIs(is_balance(30, [LONG], {**first, (101, 1): 1}), False)
@@ -229,6 +232,7 @@ class TestUndivided(TurnedCase):
         self.fails_many(3000, first_incongruent, 311, WIDER[:1], WIDER[1:], 2)
         self.assertIsNone(first_incongruent(311, WIDE[:1], WIDE[1:], 2))
         self.assertEqual(first_incongruent(311, WIDE[:1], WIDE[1:], 4), term_start(WIDE[0]))
+        self.assertEqual(first_undivided(311, [(4, *WIDE[0][1:]), WIDE[1]], 4), term_start(WIDE[1]))
         self.fails_many(6000, first_undivided, 360, [LONG], 2)
 
 

@@ -77,10 +77,16 @@ class TestByHand(TurnedCase):
         self.assertEqual(self.tell(first_exponent, 1, [PLAIN]), (1, 24))
         self.assertEqual(first_exponent(360, [(10 ** 60, {360: 99}, ())]), (1485, 1))
         self.assertIs(is_zero(1, [(1, {}, ())]), False)
+        # Its part begins, as what has no coefficients, behind the bound of the class.
+        empty, quotient = (1, {}, (("part", 2, ((2, 12),)),)), (1, {1: 8, 2: 12, 4: -8}, ())
+        self.assertEqual(class_bound(4, [quotient, empty]), (1, 2))
+        self.assertIs(is_zero(4, [quotient, (-1, *quotient[1:]), empty]), True)
+        self.assertEqual(first_exponent(4, [quotient, empty]), (0, 1))
         # A part of what has no such exponents.
         nothing = (1, {1: 3}, (("part", 2, ((2, 12),)),))
         self.assertIs(self.tell(is_zero, 4, [nothing]), True)
         self.assertEqual(sum_paper(4, [nothing, nothing]), ((0, 1),))
+        self.assertIs(self.tell(is_sum_paper, 4, [nothing, nothing], ((1,), (0,))), True)
 
     def test_unlike_classes_do_not_cancel_for_ever(self):
         four, six = (1, {}, (("four", 1),)), (-1, {}, (("six", 1),))
@@ -209,6 +215,11 @@ class TestZeros(TurnedCase):
                 terms = [term for term in terms if term[0]]
                 level_here = sum_level(terms)
                 self.assertIs(is_zero(level_here, terms), True, (quotient, p))
+                # Half a weight more, and weights of which some are odd.
+                for factor in ((1, {1: 1}, ()), (1, {1: -3}, (("two", 2),))):
+                    more = times(terms, factor)
+                    self.assertEqual(class_places(sum_level(more), more), [list(range(len(more)))])
+                    self.assertIs(is_zero(sum_level(more), more), True)
                 terms[0] = (2, *terms[0][1:])
                 self.assertIs(is_zero(level_here, terms), not any(term_row(terms[0], 60)))
 

@@ -33,7 +33,7 @@ MUTATORS = {"append", "clear", "extend", "insert", "pop", "remove", "reverse", "
 LIBRARY = {"gcd", "lcm", "isqrt", "comb", "perm", "factorial"}
 KEYWORDS = {"sorted": {"key", "reverse"}, "min": {"key", "default"}, "max": {"key", "default"}, "sum": {"start"},
             "enumerate": {"start"}, "zip": {"strict"}}
-AT_ONCE = {"zip", "enumerate", "reversed"}
+AT_ONCE = {"zip", "enumerate", "reversed", "range"}
 VIEWS = {"items", "keys", "values"}
 TAKERS = {"list", "tuple", "dict", "sorted", "sum", "any", "all", "enumerate", "zip", "min", "max"}
 NOT_NAMES = set("""register mro elements open input law version_info with_traceback add_note attrgetter breakpoint
@@ -214,7 +214,10 @@ class TestLanguage(unittest.TestCase):
                     is_iterated = isinstance(parent, (ast.For, ast.comprehension)) and parent.iter is node
                     is_taken = (isinstance(parent, ast.Call) and isinstance(parent.func, ast.Name)
                                 and parent.func.id in TAKERS and parent.args[0] is node)
-                    self.check(is_iterated or is_taken, path, node, "L23")
+                    is_range = isinstance(node.func, ast.Name) and node.func.id == "range"
+                    # A range alone may be kept in a variable.
+                    is_kept = is_range and isinstance(parent, ast.Assign) and isinstance(parent.targets[0], ast.Name)
+                    self.check(is_iterated or is_taken or is_kept, path, node, "L23")
 
     def test_loops_change_nothing_that_they_go_over(self):
         for path, tree in trees():

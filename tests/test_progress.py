@@ -225,6 +225,7 @@ class TestParted(TurnedCase):
         self.assertEqual(self.tell(parted, five, ({1: -5, 5: 20}, 5, 0)), 0)
         self.assertEqual(self.tell(parted, ({5: 19}, 5, 0), ({1: -5, 5: 20}, 5, 0)), 1)
         self.assertIsNone(self.tell(parted, ({2: 2}, 2, 0), ({3: 2}, 3, 0)))
+        self.assertEqual(self.tell(parted, ({24: 24}, 2, 0), ({48: 12}, 2, 0)), 12)
         self.assertIsNone(self.tell(parted, ({2: 5, 4: 3}, 2, 1), ({2: 41, 4: -15}, 2, 1)))
 
     def test_equal_and_unlike(self):
@@ -243,7 +244,7 @@ class TestParted(TurnedCase):
             try:
                 told = self.tell(parted, one, other)
             except TooMany as error:
-                self.assertIn(error.most, (99, 360))
+                self.assertIn(error.most, (99, 360, 3000, 6000))
                 continue
             counts[told is None] += 1
             rows = progression(*one, 60), progression(*other, 60)
@@ -265,11 +266,12 @@ class TestParted(TurnedCase):
         five = (PARTITIONS, 5, 4)
         wrong = [[PARTITIONS, 5, 4], (PARTITIONS, 5), (PARTITIONS, 5, 4, 1), (PARTITIONS, 5, 3), ({1: 0}, 5, 4),
                  (PARTITIONS, 5, 5), (PARTITIONS, 1, 0), (PARTITIONS, 61, 0), (PARTITIONS, 5, True), (PARTITIONS, 5, -1),
-                 ((1, -1), 5, 4), (PARTITIONS, 5.0, 4), (PARTITIONS, 7, 5), ({1: 1}, 5, 1)]
+                 ((1, -1), 5, 4), (PARTITIONS, 5.0, 4), (PARTITIONS, 7, 5), ({1: 1}, 5, 1), ({1: 24}, 2, 2)]
         for other in wrong + STRANGE:
             self.fails(BadPair, parted, five, other)
             self.fails(BadPair, parted, other, five)
         self.fails(BadPair, parted, (PARTITIONS, 5, 3), (PARTITIONS, 5, 3))
+        self.fails(BadPair, parted, ({1: 24}, 2, 2), ({1: 24}, 2, 2))
 
     def test_too_many(self):
         wide = ({5: 98}, 5, 0)
@@ -287,6 +289,9 @@ class TestParted(TurnedCase):
                 met += 1
                 self.fails_many(360, parted, one, other)
         self.assertGreater(met, 0)
+        full = ({8: 24, 45: 24}, 2, 0)
+        self.assertEqual(term_level(progression_term(*full)), 360)
+        self.assertIsNone(parted(full, full))
         t = fitting(PARTITIONS, 59)[0]
         self.fails_many(6000, parted, (PARTITIONS, 59, t), (PARTITIONS, 59, t))
 

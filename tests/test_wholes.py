@@ -43,6 +43,9 @@ class TestWholes(TurnedCase):
 
     def test_by_hand(self):
         self.assertEqual(self.tell(gaps, 1, FOUR), [1728])
+        told = self.tell(whole_rows, 1, FOUR)
+        # Up to sums of whole multiples: E6 ** 2 alone, or E4 ** 3, and a 1728-th of the difference.
+        self.assertEqual(abs(determinant([[fraction(x) for x in row] for row in told])), Fraction(1, 1728))
         self.assertIs(self.tell(is_whole, 1, FOUR, [(1, 1728), (-1, 1728)]), True)
         self.assertIs(self.tell(is_whole, 1, FOUR, [(1, 1728), (1, 1728)]), False)
         self.assertIs(self.tell(is_whole, 1, FOUR, [(1, 864), (-1, 864)]), True)
