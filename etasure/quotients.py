@@ -5,10 +5,11 @@ from etasure.checks import GREATEST_LEVEL, check_most, is_within
 from etasure.errors import BadNumber, BadQuotient, TooMany
 from etasure.products import row_from_sums, sums_over_divisors
 from etasure.ratios import ratio_of
-from etasure.series import series_spread
+from etasure.series import eta_power_series, series_spread, series_times
 
 GREATEST_FACTOR = 360
 GREATEST_EXPONENT = 99
+FEW_FACTORS = 2
 
 
 def is_quotient(thing):
@@ -109,8 +110,19 @@ def quotient_series(quotient, size):
     if step > 1:
         inner = {d // step: r for d, r in quotient.items()}
         return series_spread(quotient_series(inner, (size - 1) // step + 1), step, size)
+    if len(quotient) <= FEW_FACTORS:
+        return _series_of_few(quotient, size)
     powers = [0] * size
     for d, r in quotient.items():
         for n in range(d, size, d):
             powers[n] -= r
     return row_from_sums(sums_over_divisors(powers[1:], size))
+
+
+def _series_of_few(quotient, size):
+    """As quotient_series, for at most two factors: for these it is quicker to multiply their powers."""
+    series = [1] + [0] * (size - 1)
+    for d in sorted(quotient):
+        power = series_spread(eta_power_series(quotient[d], (size - 1) // d + 1), d, size)
+        series = power if d == min(quotient) else series_times(series, power, size)
+    return series

@@ -47,3 +47,33 @@ def series_spread(row, d, size):
     for n, x in enumerate(row[:(size - 1) // d + 1]):
         spread[d * n] = x
     return spread
+
+
+def eta_power_series(r, size):
+    """The r-th power of the product of (1 - q ** n) over all n from 1 on.
+
+    With a Euler's row, that of the product, and b the power, q * b' * a is r * q * a' * b. So n * b[n]
+    is the sum of ((r + 1) * i - n) * a[i] * b[n - i] over i from 1 on; and few of the a[i] are not 0.
+    """
+    terms = _pentagonal_terms(size)
+    power = [1]
+    for n in range(1, size):
+        total = 0
+        for i, x in terms:
+            if i > n:
+                break
+            total += ((r + 1) * i - n) * x * power[n - i]
+        power.append(total // n)
+    return power
+
+
+def _pentagonal_terms(size):
+    """The ascending list of the pairs (exponent, coefficient) of Euler's row, but for the first one."""
+    terms = []
+    k = 1
+    while k * (3 * k - 1) // 2 < size:
+        sign = -1 if k % 2 == 1 else 1
+        terms.append((k * (3 * k - 1) // 2, sign))
+        terms.append((k * (3 * k + 1) // 2, sign))
+        k += 1
+    return terms
