@@ -91,7 +91,8 @@ class TestBalance(TurnedCase):
         self.assertIs(self.tell(is_balance, 1, [(-6, {1: 1}, ())], {(1, 24): 1}), False)
         self.assertIs(self.tell(is_balance, 1, [(-6, {1: 1}, ())], {(25, 24): 1}), True)
         self.assertIs(self.tell(is_balance, 1, [(-6, {1: 1}, ())], {(25, 24): 5, (1, 24): 4}), True)
-        self.assertIs(self.tell(is_balance, 1, [(-6, {1: 1}, ())], {(25, 24): 1, (0, 1): 5, (-7, 1): 9, (1, 5): 1}), True)
+        beside = {(25, 24): 1, (0, 1): 5, (-7, 1): 9, (1, 5): 1}
+        self.assertIs(self.tell(is_balance, 1, [(-6, {1: 1}, ())], beside), True)
         self.assertIs(self.tell(is_balance, 4, JACOBI, {}), False)
         self.assertIs(self.tell(is_balance, 4, JACOBI, {(0, 1): 1}), False)
 

@@ -275,6 +275,10 @@ class TestBounds(TurnedCase):
             self.fails_many(3000, function, 360, terms)
         self.fails_many(3000, first_unlike, 360, terms[:1], [lower, (-1, {360: 99, 180: 99, 120: 99}, ())])
         self.assertEqual(first_exponent(360, [*terms, (1, {360: -99, 1: 1}, ())]), (-35639, 24))
+        self.assertEqual(first_exponent(360, [*terms[:2], (1, {360: 99, 180: 4}, ())]), (1515, 1))
+        self.fails_many(3000, first_exponent, 360, [*terms[:2], (1, {360: 99, 180: 4, 1: 1}, ())])
+        self.assertIs(is_sum_paper(360, [*terms[:2], (1, {360: 99, 180: 4}, ())], (1515, 1)), True)
+        self.assertIs(is_sum_paper(360, [*terms[:2], (1, {360: 99, 180: 4, 1: 1}, ())], (36361, 24)), False)
         self.assertIs(is_sum_paper(360, terms, term_start(higher)), False)
 
     def test_rows_of_parts_that_go_too_far(self):
@@ -313,13 +317,17 @@ class TestPapers(TurnedCase):
 
     def test_groupings(self):
         terms = JACOBI + [(-x, *more) for x, *more in JACOBI] + MODULAR
-        right = [((0, 1, 2), (3, 4, 5), (6, 7, 8)), ((0, 1, 2, 3, 4, 5), (6, 7, 8)), ((6, 7, 8), (0, 3), (1, 4), (2, 5)),
+        right = [((0, 1, 2), (3, 4, 5), (6, 7, 8)), ((0, 1, 2, 3, 4, 5), (6, 7, 8)),
+                 ((6, 7, 8), (0, 3), (1, 4), (2, 5)),
                  ((0, 3), (1, 2, 4, 5), (6, 7, 8))]
-        wrong = [((0, 1, 2, 3, 4, 5, 6, 7, 8),), ((0, 1), (2, 3, 4, 5), (6, 7, 8)), ((0, 1, 2), (3, 4, 5), (6, 7), (8,)),
+        wrong = [((0, 1, 2, 3, 4, 5, 6, 7, 8),), ((0, 1), (2, 3, 4, 5), (6, 7, 8)),
+                 ((0, 1, 2), (3, 4, 5), (6, 7), (8,)),
                  ((0, 1, 2), (3, 4, 5)), ((0, 2, 1), (3, 4, 5), (6, 7, 8)), ((0, 1, 2, 6, 7, 8), (3, 4, 5)),
-                 ((0, 1, 2), (3, 4, 5), (6, 7, 8), ()), ((False, 1, 2), (3, 4, 5), (6, 7, 8)), ((0, 1, 2), (3, 4, 5), 6),
+                 ((0, 1, 2), (3, 4, 5), (6, 7, 8), ()), ((False, 1, 2), (3, 4, 5), (6, 7, 8)),
+                 ((0, 1, 2), (3, 4, 5), 6),
                  ((0, 1, 2), (3, 4, 5), (6, 7, 9)), ((-9, -8, -7), (3, 4, 5), (6, 7, 8)), ((0, 1, 2), (0, 1, 2)), (),
-                 ((0, 3), (0, 3), (1, 4), (2, 5), (6, 7, 8)), ((0.0, 1, 2), (3, 4, 5), (6, 7, 8)), (0, 1), (1, 1), ((),)]
+                 ((0, 3), (0, 3), (1, 4), (2, 5), (6, 7, 8)), ((0.0, 1, 2), (3, 4, 5), (6, 7, 8)),
+                 (0, 1), (1, 1), ((),)]
         for thing in right:
             self.assertIs(self.tell(is_sum_paper, 4, terms, thing), True, thing)
         for thing in wrong:
@@ -335,7 +343,8 @@ class TestPapers(TurnedCase):
             for k in range(-30, 480):
                 at = ratio(Fraction(k, 24))
                 self.assertIs(is_sum_paper(level, terms, at), fraction(at) in found)
-            for thing in ((1, 48), (2, 2), (1.0, 1), (True, 1), [1, 1], (-(10 ** 40), 1), (10 ** 40, 24), (1, 10 ** 40)):
+            for thing in ((1, 48), (2, 2), (1.0, 1), (True, 1), [1, 1], (-(10 ** 40), 1), (10 ** 40, 24),
+                          (1, 10 ** 40)):
                 self.assertIs(is_sum_paper(level, terms, thing), False)
             self.assertIs(is_sum_paper(level, terms, self.tell(sum_paper, level, terms)), True)
 

@@ -27,8 +27,8 @@ def pool_of(level, twice):
     if (level, twice) not in POOLS:
         terms = [(1, quotient, ()) for quotient in holomorphic_ones(level, twice)]
         for pieces, weight in (((("four", 1),), 4), ((("six", 1),), 6), ((("two", 2),), 2), ((("two", 4),), 2),
-                               ((("two", 3),), 2), ((("four", 2),), 4), ((("four", 1),) * 2, 8), ((("six", 1),) * 2, 12),
-                               ((("four", 1),) * 3, 12), ((("two", 2), ("two", 2)), 4), ((("two", 2), ("two", 4)), 4),
+                               ((("two", 3),), 2), ((("four", 2),), 4), ((("four", 1),) * 2, 8),
+                               ((("six", 1),) * 2, 12),                               ((("four", 1),) * 3, 12), ((("two", 2), ("two", 2)), 4), ((("two", 2), ("two", 4)), 4),
                                ((("part", 2, ((1, 8), (2, 8))),), 8), ((("part", 5, ((1, -1), (5, 5))),), 2)):
             for quotient in holomorphic_ones(level, twice - 2 * weight):
                 terms.append((1, quotient, pieces))
@@ -108,8 +108,8 @@ class TestRelations(TurnedCase):
         self.assertEqual(self.tell(relations, 4, [THREE[2], *THREE[:2]]), [[16, -1, 1]])
         self.assertEqual(self.tell(relations, 1, [(2, {}, ()), (3, {}, ())]), [[3, -2]])
         self.assertEqual(self.tell(relations, 1, [(1, {1: 1}, ())] * 3), [[1, 0, -1], [0, 1, -1]])
-        self.assertEqual(self.tell(relations, 1, [(2, {}, ()), (1, {1: 1}, ()), (4, {}, ()), (5, {1: 1}, ()), (6, {}, ())]),
-                         [[1, 0, 1, 0, -1], [0, 5, 0, -1, 0], [0, 0, 3, 0, -2]])
+        mixed = [(2, {}, ()), (1, {1: 1}, ()), (4, {}, ()), (5, {1: 1}, ()), (6, {}, ())]
+        self.assertEqual(self.tell(relations, 1, mixed), [[1, 0, 1, 0, -1], [0, 5, 0, -1, 0], [0, 0, 3, 0, -2]])
         nothing = (1, {1: 3}, (("part", 2, ((2, 12),)),))
         self.assertEqual(self.tell(relations, 4, [nothing]), [[1]])
         self.assertEqual(self.tell(free_places, 4, [nothing]), [])
