@@ -266,7 +266,8 @@ class TestParted(TurnedCase):
         five = (PARTITIONS, 5, 4)
         wrong = [[PARTITIONS, 5, 4], (PARTITIONS, 5), (PARTITIONS, 5, 4, 1), (PARTITIONS, 5, 3), ({1: 0}, 5, 4),
                  (PARTITIONS, 5, 5), (PARTITIONS, 1, 0), (PARTITIONS, 61, 0), (PARTITIONS, 5, True),
-                 (PARTITIONS, 5, -1),                 ((1, -1), 5, 4), (PARTITIONS, 5.0, 4), (PARTITIONS, 7, 5), ({1: 1}, 5, 1), ({1: 24}, 2, 2)]
+                 (PARTITIONS, 5, -1), ((1, -1), 5, 4), (PARTITIONS, 5.0, 4), (PARTITIONS, 7, 5), ({1: 1}, 5, 1),
+                 ({1: 24}, 2, 2)]
         for other in wrong + STRANGE:
             self.fails(BadPair, parted, five, other)
             self.fails(BadPair, parted, other, five)

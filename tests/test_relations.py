@@ -28,7 +28,8 @@ def pool_of(level, twice):
         terms = [(1, quotient, ()) for quotient in holomorphic_ones(level, twice)]
         for pieces, weight in (((("four", 1),), 4), ((("six", 1),), 6), ((("two", 2),), 2), ((("two", 4),), 2),
                                ((("two", 3),), 2), ((("four", 2),), 4), ((("four", 1),) * 2, 8),
-                               ((("six", 1),) * 2, 12),                               ((("four", 1),) * 3, 12), ((("two", 2), ("two", 2)), 4), ((("two", 2), ("two", 4)), 4),
+                               ((("six", 1),) * 2, 12), ((("four", 1),) * 3, 12), ((("two", 2), ("two", 2)), 4),
+                               ((("two", 2), ("two", 4)), 4),
                                ((("part", 2, ((1, 8), (2, 8))),), 8), ((("part", 5, ((1, -1), (5, 5))),), 2)):
             for quotient in holomorphic_ones(level, twice - 2 * weight):
                 terms.append((1, quotient, pieces))
