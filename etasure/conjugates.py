@@ -3,7 +3,7 @@
 from etasure.checks import check_level
 from etasure.groups import path_of, product_along
 from etasure.matrices import check_matrix_of, inverted, product_of, upright
-from etasure.skeleton import Skeleton
+from etasure.skeleton import level_skeleton
 from etasure.steps import core_of, inverse_steps, turning_from
 
 
@@ -13,7 +13,7 @@ def conjugator(level, one, other):
     check_matrix_of(level, one)
     check_matrix_of(level, other)
     paths = [path_of(level, upright(given)) for given in (one, other)]
-    basis = Skeleton(level).basis
+    basis = level_skeleton(level).basis
     steps = conjugating_steps(paths[0], paths[1], [order for _, order in basis])
     if steps is None:
         return None

@@ -7,6 +7,7 @@ from math import lcm
 
 from etasure.arithmetic import greatest_divisor, inverse_modulo
 from etasure.hermite import less_times, place_of_head, steps_of, sublattice
+from etasure.ratios import ratio_of
 
 
 def echelon_of(vectors, width):
@@ -44,25 +45,74 @@ def cleared(vector, row, place):
         return vector
     lead, factor = row[place], vector[place]
     told = [lead * x - factor * y for x, y in zip(vector, row)]
-    common = greatest_divisor(told)
+    common = max(1, greatest_divisor(told))
     return [x // common for x in told]
 
 
 def kernel_of(rows, width):
     """For each column without a head, a whole relation between it and columns with heads."""
-    kernel = []
-    for place in range(width):
-        if place not in rows:
-            common = 1
-            for head in rows:
-                if rows[head][place] != 0:
-                    common = lcm(common, rows[head][head])
-            relation = [0] * width
-            relation[place] = common
-            for head in rows:
-                relation[head] = -rows[head][place] * (common // rows[head][head])
-            kernel.append(relation)
-    return kernel
+    return [relation_at(rows, width, place) for place in range(width) if place not in rows]
+
+
+def relation_at(rows, width, place):
+    """A whole relation between the column at the place, one without a head, and columns with heads."""
+    common = 1
+    for head in rows:
+        if rows[head][place] != 0:
+            common = lcm(common, rows[head][head])
+    relation = [0] * width
+    relation[place] = common
+    for head in rows:
+        relation[head] = -rows[head][place] * (common // rows[head][head])
+    return relation
+
+
+def ratios_by(rows, count):
+    """The ratios, 0 where no head is, whose sum of products with the columns below count is the column at count.
+
+    rows are those of an echelon in which that column has no head.
+    """
+    ratios = [(0, 1)] * count
+    for place in rows:
+        lead, factor = rows[place][place], rows[place][count]
+        ratios[place] = ratio_of(factor, lead) if lead > 0 else ratio_of(-factor, -lead)
+    return ratios
+
+
+def parts_of_target(columns, target):
+    """The dict from places of columns to ratios for which the sum of ratio * column is target; None without any.
+
+    Of many columns only as many are taken as it needs: each is one on which something that is 0 on all
+    that are taken, but not on target, is not 0 either. Where there is none left, target is no such sum.
+    """
+    rows = {}
+    taken = []
+    rest = list(target)
+    while not all([x == 0 for x in rest]):
+        place = place_of_head(rest)
+        test = relation_at(rows, len(target), place)
+        new = first_not_zero([dot(test, column) for column in columns])
+        if new is None:
+            return None
+        taken.append(new)
+        vector = columns[new]
+        for head in rows:
+            vector = cleared(vector, rows[head], head)
+        rows = {head: cleared(rows[head], vector, place) for head in rows}
+        rows[place] = vector
+        rest = cleared(rest, vector, place)
+    # At the places of the heads those taken are independent, and tell all.
+    vectors = [[columns[at][place] for at in taken] + [target[place]] for place in rows]
+    ratios = ratios_by(echelon_of(vectors, len(taken) + 1)[0], len(taken))
+    return {at: ratio for at, ratio in zip(taken, ratios)}
+
+
+def first_not_zero(numbers):
+    """The place of the first number that is not 0; None if there is none."""
+    for place, x in enumerate(numbers):
+        if x != 0:
+            return place
+    return None
 
 
 def whole_relations(vectors, width):

@@ -5,7 +5,7 @@ from etasure.errors import TooMany
 from etasure.pieces import LAST_NEEDED, greatest_reach
 from etasure.ratios import is_ratio, ratio_of
 from etasure.sums import GREATEST_DISTANCE, check_bears, check_sum, coefficients_by_parts
-from etasure.tables import class_tables, negated
+from etasure.tables import class_tables, first_parts_of, negated, stops_between
 from etasure.terms import start_parts
 
 
@@ -34,7 +34,12 @@ def first_exponent(level, terms):
 def is_zero(level, terms):
     """Whether the coefficients of the sum are 0 at all exponents."""
     check_level_and_sum(level, terms)
-    return not _first_parts(class_tables(level, terms))
+    return is_zero_sum(level, terms)
+
+
+def is_zero_sum(level, terms):
+    """As is_zero, of what is known to be right, and may have more terms and greater numbers."""
+    return not first_parts_of(class_tables(level, terms))
 
 
 def first_unlike(level, one, other):
@@ -43,32 +48,18 @@ def first_unlike(level, one, other):
     return least_exponent(level, list(one) + negated(other))
 
 
-def _first_parts(tables):
-    """For each class that is not 0, 24 times the least exponent at which it is not."""
-    found = []
-    for table in tables:
-        totals = table.totals()
-        found.extend([table.first + 24 * n for n in range(table.size) if totals[n] != 0][:1])
-    return found
-
-
 def least_exponent(level, terms):
     """As first_exponent, of what is known to be right, and may have more terms."""
-    firsts = _first_parts(class_tables(level, terms))
+    firsts = first_parts_of(class_tables(level, terms))
     if not firsts:
         return None
     far = min([start_parts(term) for term in terms]) + 24 * GREATEST_DISTANCE
     known = min([start_parts(term) + 24 * _greatest_place(term) + 23 for term in terms])
     # No class ahead of the least of these has a coefficient; from there on those of unlike classes may cancel.
-    step = 0
-    while min(firsts) <= min(far, known):
-        last = min(min(firsts) + step, far, known)
+    for last in stops_between(min(firsts), min(far, known), 24):
         found = coefficients_by_parts(terms, last)
         if found:
             return ratio_of(min(found), 24)
-        if last == min(far, known):
-            break
-        step = 2 * step + 24
     raise TooMany(GREATEST_DISTANCE if far <= known or min(firsts) > far else LAST_NEEDED)
 
 

@@ -4,7 +4,7 @@ from etasure.checks import check_level, is_pair
 from etasure.errors import BadPath, TooMany
 from etasure.genus import elliptic, rank_of
 from etasure.matrices import IDENTITY, check_matrix_of, check_upright, matrix_power, product_of, upright
-from etasure.skeleton import Skeleton
+from etasure.skeleton import level_skeleton
 from etasure.steps import add_step
 from etasure.words import chain_within
 
@@ -25,7 +25,7 @@ def generators(level):
     """The list of the generators, pairs (matrix, order), order 0 for the free ones."""
     check_level(level)
     check_small(level)
-    return Skeleton(level).basis
+    return level_skeleton(level).basis
 
 
 def orders_of(level):
@@ -63,7 +63,7 @@ def along(level, path):
     """The upright matrix that is, but for its sign, the product of the powers along the path."""
     if not is_path(level, path):
         raise BadPath("the path is none of the level")
-    return upright(product_along(Skeleton(level).basis, path))
+    return upright(product_along(level_skeleton(level).basis, path))
 
 
 def product_along(basis, steps):
@@ -80,10 +80,16 @@ def path_of(level, matrix):
     check_upright(matrix)
     check_matrix_of(level, matrix)
     check_small(level)
+    turns = turns_to(matrix)
+    return tuple(steps_along(level_skeleton(level), turns))
+
+
+def turns_to(matrix):
+    """An upright matrix as turns_of its chain; TooMany(600) if the numbers of that come to more than 600."""
     chain = chain_within(matrix, LONGEST_SHORT_CHAIN)
     if chain is None or sum([abs(k) for k in chain]) > GREATEST_CHAIN_SUM:
         raise TooMany(GREATEST_CHAIN_SUM)
-    return tuple(steps_along(Skeleton(level), turns_of(chain)))
+    return turns_of(chain)
 
 
 def turns_of(chain):

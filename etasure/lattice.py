@@ -18,7 +18,7 @@ def quotients_above(level, twice, lows):
     check_level(level)
     check_twice(twice)
     check_orders(level, lows)
-    return _quotients_in(level, twice, lows)
+    return quotients_in(level, twice, lows)
 
 
 def check_twice(twice):
@@ -31,10 +31,10 @@ def holomorphic_ones(level, twice):
     """All quotients that the level bears with this sum of exponents and no order below 0."""
     check_level(level)
     check_twice(twice)
-    return _quotients_in(level, twice, {c: (0, 1) for c in divisors_of(level)})
+    return quotients_in(level, twice, {c: (0, 1) for c in divisors_of(level)})
 
 
-def _quotients_in(level, twice, lows):
+def quotients_in(level, twice, lows):
     """As quotients_above, of what is known to be right."""
     corners = _corners(level, twice, lows)
     if not corners:

@@ -1,10 +1,9 @@
 """All linear relations between terms that hold at all exponents."""
 
 from etasure.checks import check_level
-from etasure.echelons import echelon_of, kernel_of, whole_relations
+from etasure.echelons import echelon_of, kernel_of, ratios_by, whole_relations
 from etasure.equal import check_level_and_sum
 from etasure.hermite import place_of_head, transposed
-from etasure.ratios import ratio_of
 from etasure.sums import check_bears, check_sum
 from etasure.tables import class_tables, one_table
 from etasure.terms import check_term
@@ -13,10 +12,15 @@ from etasure.terms import check_term
 def relations(level, terms):
     """The only base in steps (see hermite) of all lists x of numbers for which the sum of x * term is 0."""
     check_level_and_sum(level, terms)
+    return relations_in(class_tables(level, terms), len(terms))
+
+
+def relations_in(tables, count):
+    """As relations, of as many terms as count tells, with the tables of their classes."""
     found = []
-    for table in class_tables(level, terms):
+    for table in tables:
         for relation in whole_relations(table.vectors(), len(table.places)):
-            numbers = [0] * len(terms)
+            numbers = [0] * count
             for place, x in zip(table.places, relation):
                 numbers[place] = x
             found.append(numbers)
@@ -50,11 +54,7 @@ def combination(level, target, terms):
     rows, _ = echelon_of(table.vectors(), count + 1)
     if count in rows:
         return None
-    ratios = [(0, 1)] * count
-    for place in rows:
-        lead, factor = rows[place][place], rows[place][count]
-        ratios[place] = ratio_of(factor, lead) if lead > 0 else ratio_of(-factor, -lead)
-    return ratios
+    return ratios_by(rows, count)
 
 
 def _joint_table(level, target, terms):

@@ -1,10 +1,11 @@
-"""The graph along which matrices of a level are found as products of free generators.
+"""The graph along which matrices of a group are found as products of free generators.
 
 Modulo 1 and -1 all matrices are the free product of a group of order 2, by S, and one of order 3,
-by U = S * T. So the group of a level acts on a tree; below it lies this graph. Its edges are the
-points of the level. Each edge has a near end, which it shares with the point to which S moves it,
-and a far end, which it shares with those to which U moves it. The group is the free product of
-the groups that leave an end fixed (of order 2 near, 3 far) and a free group that has a generator
+by U = S * T. So each group of matrices, such as that of a level, acts on a tree; below it lies this
+graph. Its edges are the points of the group: two matrices have the same point exactly if one times the
+inverse of the other is in the group. Each edge has a near end, which it shares with the point to which
+S moves it, and a far end, which it shares with those to which U moves it. The group is the free product
+of the groups that leave an end fixed (of order 2 near, 3 far) and a free group that has a generator
 for each edge outside of a tree that spans the graph.
 """
 
@@ -15,30 +16,39 @@ TURN = (0, -1, 1, 1)
 BACK = (1, 1, -1, 0)
 
 
-class Skeleton:
-    """The graph of a level, with points told by their places in all_points.
+def level_skeleton(level):
+    """The graph of the matrices of a level."""
+    points = all_points(level)
+    places = {point: at for at, point in enumerate(points)}
+    flips = [places[moved_point(level, point, FLIP)] for point in points]
+    turns = [places[moved_point(level, point, TURN)] for point in points]
+    return Skeleton(flips, turns, places[(0, 1 % level)])
 
-    near and far are, for each edge, matrices with its point, such that those of edges that share
+
+class Skeleton:
+    """The graph of a group, with points told by numbers from 0 on.
+
+    flips and turns tell to which points S and U move each, base is the point of the group itself. near
+    and far are, for each edge, matrices with its point, such that those of edges that share
     an end are unlike by a power of S or U only, and both are equal along the tree. The basis is
     the list of generators (matrix, order); for each edge flip_places, turn_places and edge_places
     tell the place there of the one that fixes its near end, of the one that fixes its far end,
     and of the one that the edge itself makes, or None.
     """
 
-    def __init__(self, level):
-        points = all_points(level)
-        places = {point: at for at, point in enumerate(points)}
-        self.flips = [places[moved_point(level, point, FLIP)] for point in points]
-        self.turns = [places[moved_point(level, point, TURN)] for point in points]
-        self.backs = [places[moved_point(level, point, BACK)] for point in points]
-        self.base = places[(0, 1 % level)]
-        self.near = [None] * len(points)
-        self.far = [None] * len(points)
-        self.in_tree = [False] * len(points)
+    def __init__(self, flips, turns, base):
+        count = len(flips)
+        self.flips = list(flips)
+        self.turns = list(turns)
+        self.backs = [turns[at] for at in turns]
+        self.base = base
+        self.near = [None] * count
+        self.far = [None] * count
+        self.in_tree = [False] * count
         self.basis = []
-        self.flip_places = [None] * len(points)
-        self.turn_places = [None] * len(points)
-        self.edge_places = [None] * len(points)
+        self.flip_places = [None] * count
+        self.turn_places = [None] * count
+        self.edge_places = [None] * count
         self.grow_tree()
         self.choose_basis()
 

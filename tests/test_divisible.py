@@ -3,7 +3,7 @@
 import random
 import unittest
 from fractions import Fraction
-from math import gcd
+from math import gcd, lcm
 
 from etasure.alikeness import class_bound, same_class
 from etasure.divisible import balance, content, first_incongruent, first_undivided, is_balance
@@ -57,17 +57,16 @@ class TestContent(TurnedCase):
     def test_of_products(self):
         made = 0
         for _ in range(60):
-            (level, one), (_, other) = some_class(2), some_class(2)
+            (level, one), (far, other) = some_class(2), some_class(2)
             one = [(2 * x, *more) for x, *more in one]
             try:
                 product = sum_times(one, other)
             except BadPair:
                 continue
-            if not product or sum_level(product) > 24:
+            if not product or lcm(level, far) > 24:
                 continue
             made += 1
-            level, both = sum_level(product), content(sum_level(one), one) * content(sum_level(other), other)
-            self.assertEqual(content(level, product), both)
+            self.assertEqual(content(lcm(level, far), product), content(level, one) * content(far, other))
         self.assertGreater(made, 20)
 
     def test_errors(self):
