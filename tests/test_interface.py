@@ -6,9 +6,11 @@ import inspect
 import pathlib
 import unittest
 
+from etasure import desk
+
 PACKAGE = pathlib.Path(__file__).resolve().parent.parent / "etasure"
 
-# The modules of the interface that have landed, in its order, with their functions and parameters.
+# The modules of the interface, in its order, with their functions and parameters; errors and desk are told below.
 MODULES = {
     "rows": "is_row(thing) row_plus(one,other) row_times(one,other) row_inverse(row) row_power(row,k) row_spread(row,m)"
             " row_section(row,m,t) row_woven(rows)",
@@ -53,6 +55,27 @@ MODULES = {
               " first_not_modulo(level,terms,u)",
     "progress": "progression(quotient,m,t,most) fits(quotient,m,t) fitting(quotient,m) progression_term(quotient,m,t)"
                 " content_of(quotient,m,t) last_needed(quotient,m,t) first_not(quotient,m,t,u) parted(one,other)",
+    "ramanujan": "spelled(quotient,m,t) is_spelling(quotient,m,t,thing)",
+    "towers": "tower(prime,k) tower_content(prime,k) tower_step(prime,k,row)",
+    "hecke": "sign_of(level,terms) hecke_row(level,terms,p,most) reach_of(level,terms)",
+    "multiplied": "is_cuspidal(level,terms) first_broken(level,terms) coefficient_at(level,terms,n)",
+    "forms": "is_form(thing) form_row(form,most) form_term(form) least_missed(form) gaps_of(form,most)",
+    "divided": "by_divisors(form) divided_count(form,n)",
+    "periods": "is_period_product(period,thing) folded(period,g) period_start(period,product)"
+               " period_row(period,product,most) stretched(period,product,k) refined(period,product,k)"
+               " whole_period(period) period_moved(period,product,matrix) period_order(period,product,cusp)",
+    "narrow": "is_narrow(level,matrix) narrow_index(level) narrow_cusps(level) narrow_generators(level)"
+              " narrow_path(level,matrix)",
+    "mixed": "is_mixed(period,thing) mixed_start(period,term) mixed_row(period,term,most)"
+             " mixed_multiplier(period,term,matrix) mixed_order(period,term,cusp) same_sort(level,period,one,other)",
+    "identities": "sort_places(level,period,terms) sort_bound(level,period,terms) first_mixed(level,period,terms)"
+                  " mixed_relations(level,period,terms) three_terms(period,a,b,c,d)",
+    "partitions": "is_partition(thing) partitions_of(n) mirrored(partition) franklin(partition)",
+    "families": "is_family(thing) is_in(family,partition) family_row(family,most) family_powers(family)"
+                " first_unlike_count(one,other)",
+    "pairings": "paired(one,other,partition) family_quotient(family)",
+    "texts": "ratio_text(ratio) quotient_text(quotient) matrix_text(matrix) term_text(term) sum_text(terms)"
+             " read_ratio(text) read_quotient(text) read_matrix(text) read_term(text) read_sum(text)",
 }
 ORDER = """errors rows products sparse matrices words cosets cusps genus groups conjugates quotients roots multipliers
 classes orders lattice units eisenstein pieces terms sums alikeness equal relations divisible wholes modulo progress
@@ -69,9 +92,9 @@ def imported_modules(name):
 
 def reached_modules(name):
     """The same, with what those import from."""
-    reached = []
-    for near in imported_modules(name):
-        reached.extend([near] + reached_modules(near))
+    reached = imported_modules(name)
+    for near in reached:
+        reached.extend([far for far in imported_modules(near) if far not in reached])
     return reached
 
 
@@ -88,6 +111,18 @@ class TestInterface(unittest.TestCase):
                 self.assertEqual(list(inspect.signature(function).parameters), parameters.split(","))
                 for parameter in inspect.signature(function).parameters.values():
                     self.assertIs(parameter.kind, inspect.Parameter.POSITIONAL_OR_KEYWORD)
+
+    def test_all_modules_are_there(self):
+        self.assertEqual(["errors", *MODULES, "desk"], ORDER)
+        for name in ORDER:
+            self.assertTrue((PACKAGE / f"{name}.py").is_file(), name)
+
+    def test_desk(self):
+        self.assertTrue(inspect.isclass(desk.Desk))
+        self.assertEqual(desk.Desk.__module__, "etasure.desk")
+        self.assertEqual(list(inspect.signature(desk.Desk).parameters), [])
+        self.assertIn("say", vars(desk.Desk))
+        self.assertEqual(list(inspect.signature(desk.Desk.say).parameters), ["self", "line"])
 
     def test_order_of_modules(self):
         for path in sorted(PACKAGE.glob("*.py")):

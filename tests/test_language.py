@@ -15,7 +15,7 @@ PACKAGE = pathlib.Path(__file__).resolve().parent.parent / "etasure"
 FILES = sorted(PACKAGE.rglob("*.py"))
 
 STATEMENTS = (ast.FunctionDef, ast.ClassDef, ast.ImportFrom, ast.Assign, ast.AugAssign, ast.Return, ast.If, ast.While,
-              ast.For, ast.Expr, ast.Raise, ast.Break, ast.Continue, ast.Pass)
+              ast.For, ast.Expr, ast.Raise, ast.Break, ast.Continue, ast.Pass, ast.Try, ast.ExceptHandler)
 EXPRESSIONS = (ast.BoolOp, ast.BinOp, ast.UnaryOp, ast.Compare, ast.Call, ast.Name, ast.Attribute, ast.Subscript,
                ast.Slice, ast.Tuple, ast.List, ast.Dict, ast.ListComp, ast.DictComp, ast.IfExp, ast.Constant,
                ast.JoinedStr, ast.FormattedValue)
@@ -254,6 +254,17 @@ class TestLanguage(unittest.TestCase):
                 if isinstance(node, ast.Raise):
                     self.check(isinstance(node.exc, ast.Call) and isinstance(node.exc.func, ast.Name)
                                and node.cause is None and not node.exc.keywords, path, node, "L19")
+
+    def test_only_errors_of_the_package_are_caught(self):
+        for path, tree in trees():
+            own = {alias.name for node in tree.body if isinstance(node, ast.ImportFrom)
+                   and node.module == "etasure.errors" for alias in node.names}
+            for node in ast.walk(tree):
+                if isinstance(node, ast.Try):
+                    self.check(not node.finalbody and not node.orelse, path, node, "L6")
+                if isinstance(node, ast.ExceptHandler):
+                    is_own = isinstance(node.type, ast.Name) and node.type.id in own and node.name is None
+                    self.check(is_own, path, node, "L19")
 
     def test_strings_and_words(self):
         for path, tree in trees():
