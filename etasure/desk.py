@@ -106,7 +106,9 @@ def _same_answer(one, other):
 
 
 def _progression_answer(word, quotient, numbers):
-    """The answer to a word about a progression; what is not told by a text is None."""
+    """The answer to a word about a progression; what no text tells is None."""
+    if quotient is None or not all([number is not None for number in numbers]):
+        return UNCLEAR
     if word == "run":
         return number_text(content_of(quotient, numbers[0], numbers[1]))
     if word == "not":

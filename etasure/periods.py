@@ -8,7 +8,7 @@ from etasure.checks import check_most, is_number, is_within
 from etasure.errors import BadMatrix, BadNumber, BadPeriod, BadProduct, TooMany
 from etasure.matrices import check_cusp, check_upright
 from etasure.products import row_from_sums, sums_over_divisors
-from etasure.quotients import bounded_quotient
+from etasure.quotients import GREATEST_EXPONENT, bounded_quotient
 from etasure.ratios import ratio_of
 from etasure.roots import root_of
 
@@ -31,7 +31,12 @@ def is_product(period, thing):
     """As is_period_product, of what is known to be a period."""
     if not isinstance(thing, dict):
         return False
-    return all([is_within(g, 1, period // 2) and is_within(r, -99, 99) and r != 0 for g, r in thing.items()])
+    return all([_is_item(period, g, r) for g, r in thing.items()])
+
+
+def _is_item(period, g, r):
+    """Whether g and r may stand in a period product."""
+    return is_within(g, 1, period // 2) and is_within(r, -GREATEST_EXPONENT, GREATEST_EXPONENT) and r != 0
 
 
 def check_product(period, product):

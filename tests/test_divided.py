@@ -7,6 +7,7 @@ from math import isqrt, lcm, prod
 
 from etasure.divided import by_divisors, divided_count
 from etasure.eisenstein import divisor_sum
+from etasure.equal import first_unlike, is_zero
 from etasure.errors import BadForm, BadNumber, NotDivided, NotSquare
 from etasure.forms import form_row, form_term
 from etasure.terms import term_level
@@ -104,6 +105,22 @@ class TestDivided(Case):
                 row = form_row(form, 60)
                 self.assertEqual([divided_count(form, n) for n in range(1, 61)], row[1:])
         self.assertTrue(all(type(divided_count(form, 12)) is int for form in found))
+
+    def test_sums_of_forms_and_series(self):
+        # The term of a form stands in sums that are decided for all exponents.
+        eight = [(15, form_term((1,) * 8)[1], ()), (-1, {}, (("four", 1),)), (2, {}, (("four", 2),)),
+                 (-16, {}, (("four", 4),))]
+        self.assertIs(is_zero(4, eight), True)
+        self.assertIs(is_zero(8, [(14, *eight[0][1:]), *eight[1:]]), False)
+        four = [(3, form_term((1, 1, 1, 1))[1], ()), (-1, {}, (("two", 4),))]
+        self.assertIs(is_zero(4, four), True)
+        for one, other in (((1, 1, 1, 1), (1, 1, 1, 2)), ((1, 1), (1, 1, 1)), ((1, 3), (1, 3)),
+                           ((1, 1, 5, 5), (1, 1, 5, 6))):
+            rows = form_row(one, 100), form_row(other, 100)
+            found = [n for n in range(101) if rows[0][n] != rows[1][n]]
+            level = lcm(term_level(form_term(one)), term_level(form_term(other)))
+            self.assertEqual(first_unlike(level, [form_term(one)], [form_term(other)]),
+                             (found[0], 1) if found else None)
 
     def test_errors(self):
         for form in UNBORNE:

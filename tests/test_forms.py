@@ -19,10 +19,11 @@ NO_FORMS = [
 ]
 # The least n that a form misses is one of 1, 2, 3, 5, 6, 7, 10, 14, 15; the last ones miss none.
 MISSED = [
-    ((2,), 1), ((2, 3), 1), ((1,), 2), ((1, 3), 2), ((1, 1), 3), ((1, 2), 5), ((1, 1, 1), 7), ((1, 1, 2), 14), ((1, 1, 3), 6),
-    ((1, 2, 2), 7), ((1, 2, 3), 10), ((1, 2, 4), 14), ((1, 2, 5), 10), ((1, 2, 5, 5), 15), ((1, 1, 1, 8), 7), ((1, 1, 3, 7), 6),
-    ((1, 1, 1, 1), None), ((1, 2, 5, 10), None), ((1, 1, 1, 7), None), ((1, 2, 3, 10), None), ((1, 1, 2, 14), None),
-    ((1, 2, 4, 14), None), ((1, 2, 5, 9), None), ((1, 1, 2, 15), 14), ((1, 1, 3, 6), None), ((1,) * 12, None),
+    ((2,), 1), ((2, 3), 1), ((1,), 2), ((1, 3), 2), ((1, 1), 3), ((1, 2), 5), ((1, 1, 1), 7), ((1, 1, 2), 14),
+    ((1, 1, 3), 6), ((1, 2, 2), 7), ((1, 2, 3), 10), ((1, 2, 4), 14), ((1, 2, 5), 10), ((1, 2, 5, 5), 15),
+    ((1, 1, 1, 8), 7), ((1, 1, 3, 7), 6), ((1, 1, 1, 1), None), ((1, 2, 5, 10), None), ((1, 1, 1, 7), None),
+    ((1, 2, 3, 10), None), ((1, 1, 2, 14), None), ((1, 2, 4, 14), None), ((1, 2, 5, 9), None), ((1, 1, 2, 15), 14),
+    ((1, 1, 3, 6), None), ((1,) * 12, None),
 ]
 
 
@@ -51,7 +52,8 @@ class TestForms(Case):
         self.assertEqual(form_row((1,) * 12, 1), [1, 24])
 
     def test_ways_by_counting(self):
-        for count, most, greatest in ((1, 3000, 90), (2, 400, 90), (3, 100, 30), (4, 40, 12), (5, 20, 9), (8, 8, 5), (12, 3, 3)):
+        for count, most, greatest in ((1, 3000, 90), (2, 400, 90), (3, 100, 30), (4, 40, 12), (5, 20, 9), (8, 8, 5),
+                                      (12, 3, 3)):
             for _ in range(6):
                 form = some_form(count, greatest)
                 self.assertEqual(self.named(form_row, form, most), counted(form, most))
@@ -59,7 +61,8 @@ class TestForms(Case):
         for _ in range(10):
             form = some_form()
             head, tail = form_row(form[:1], 200), form_row(form[1:], 200) if form[1:] else [1] + [0] * 200
-            self.assertEqual(form_row(form, 200), [sum(head[k] * tail[n - k] for k in range(n + 1)) for n in range(201)])
+            self.assertEqual(form_row(form, 200),
+                             [sum(head[k] * tail[n - k] for k in range(n + 1)) for n in range(201)])
         self.assertEqual(len(form_row((1, 2, 90), 3000)), 3001)
 
     def named(self, function, *arguments):

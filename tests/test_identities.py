@@ -269,7 +269,8 @@ class TestBounds(TurnedCase):
             for _ in range(CHANCE.randint(1, 6)):
                 x, quotient, product = CHANCE.choice(terms)
                 quotient = dict(quotient)
-                d, e, k = CHANCE.choice(divisors(level)), CHANCE.choice(divisors(level)), CHANCE.choice([0, 1, 6, 12, 24])
+                d, e, k = CHANCE.choice(divisors(level)), CHANCE.choice(divisors(level)), CHANCE.choice([0, 1, 6, 12,
+                                                                                                         24])
                 quotient[d] = quotient.get(d, 0) + k
                 quotient[e] = quotient.get(e, 0) - k
                 terms.append((x, {d: r for d, r in quotient.items() if r}, product))

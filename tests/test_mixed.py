@@ -53,7 +53,8 @@ def turn_of(level, cusp, width):
 class TestMixed(TurnedCase):
 
     def test_is_mixed(self):
-        right = [(1, {}, {}), (-1, {1: 1}, {1: 1}), (GREAT, {360: -99, 7: 1}, {2: -99}), (-GREAT, {359: 2, 360: 1}, {2: 1, 1: 2})]
+        right = [(1, {}, {}), (-1, {1: 1}, {1: 1}), (GREAT, {360: -99, 7: 1}, {2: -99}),
+                 (-GREAT, {359: 2, 360: 1}, {2: 1, 1: 2})]
         self.judges(is_mixed, right, NO_MIXED, 5)
         self.assertIs(self.tell(is_mixed, 2, (1, {}, {1: 3})), True)
         self.assertIs(self.tell(is_mixed, 2, (1, {}, {2: 3})), False)
@@ -107,7 +108,8 @@ class TestMultipliers(TurnedCase):
             for second in (other, upright(inverted(one)), (1, -2, 0, 1)):
                 product = composed(one, second)
                 told = fraction(self.tell(mixed_multiplier, period, term, upright(product)))
-                expected = fraction(mixed_multiplier(period, term, one)) + fraction(mixed_multiplier(period, term, second))
+                expected = fraction(mixed_multiplier(period, term, one)) + fraction(mixed_multiplier(period, term,
+                                                                                                     second))
                 if upright(product) != product:
                     expected += Fraction(6 * sum_of(term), 24)
                 self.assertEqual(told, expected % 1)
@@ -211,7 +213,8 @@ class TestSorts(TurnedCase):
                 h = CHANCE.randint(1, period // 2)
                 product[h] = product.get(h, 0) + CHANCE.choice([-1, 0, 1]) * k
             else:
-                d, e, k = CHANCE.choice(divisors(level)), CHANCE.choice(divisors(level)), CHANCE.choice([1, 2, 4, 6, 12, 24])
+                d, e, k = CHANCE.choice(divisors(level)), CHANCE.choice(divisors(level)), CHANCE.choice([1, 2, 4, 6, 12,
+                                                                                                         24])
                 quotient[d] = quotient.get(d, 0) + k
                 quotient[e] = quotient.get(e, 0) - k
         return (number, {d: r for d, r in quotient.items() if r}, {g: r for g, r in product.items() if r})

@@ -35,7 +35,8 @@ BROKEN = [
 ]
 NOT_CUSPIDAL = [
     (1, [(1, {}, (E4,))]), (4, JACOBI), (1, [(1, {}, (E4, E4, E4)), (-1, {}, (E6, E6))]), (5, [(1, {1: -1, 5: 5}, ())]),
-    (3, [(1, {}, (("two", 3),))]), (4, [(1, {1: -4, 2: 10, 4: -4}, ())]), (2, [(1, {1: 24}, ()), (1, {1: -8, 2: 16}, (E4, E4))]),
+    (3, [(1, {}, (("two", 3),))]), (4, [(1, {1: -4, 2: 10, 4: -4}, ())]),
+    (2, [(1, {1: 24}, ()), (1, {1: -8, 2: 16}, (E4, E4))]),
 ]
 
 
@@ -116,7 +117,8 @@ class TestBroken(TurnedCase):
     def test_of_many(self):
         counts = {None: 0, (1, 1): 0, "other": 0}
         while min(counts.values()) < 6:
-            level, quotient, _ = CHANCE.choice([(level, quotient, sign) for quotient, level, sign in MULTIPLIED if level < 12])
+            level, quotient, _ = CHANCE.choice([(level, quotient, sign) for quotient, level,
+                                                sign in MULTIPLIED if level < 12])
             terms = [(1, quotient, ())]
             for _ in range(CHANCE.randint(0, 2)):
                 # The same in q ** k, at a level k times as great.
@@ -216,7 +218,8 @@ class TestCoefficientAt(TurnedCase):
             k, rest = term_twice(terms[0]) // 2, n // half
             total = 0
             for d in divisors_of_both(half, rest):
-                total += chi(level, terms, d) * d ** (k - 1) * coefficient_at(level, terms, n // (d * d)) if d > 1 else 0
+                total += chi(level, terms, d) * d ** (k - 1) * coefficient_at(level, terms,
+                                                                              n // (d * d)) if d > 1 else 0
             self.assertEqual(told, coefficient_at(level, terms, half) * coefficient_at(level, terms, rest) - total)
 
     def test_primes_near_the_bound(self):

@@ -24,9 +24,9 @@ PERIODS = range(2, 61)
 NO_PERIODS = NO_NUMBERS + [0, 1, -2, 61, 10 ** 40]
 # Not for the period 5.
 NO_PRODUCTS = [
-    None, True, 1, "one", [], (), [(1, 1)], {1}, {0: 1}, {3: 1}, {-1: 1}, {5: 1}, {1: 0}, {1: 100}, {1: -100}, {True: 1},
-    {1: True}, {2: False}, {1: 1.0}, {1.0: 1}, {"1": 1}, {1: "1"}, {1: None}, {None: 1}, {1: [1]}, {1: 1, 2: 0}, {1: 1, 3: 1},
-    {1: Stubborn()}, object(), Stubborn(),
+    None, True, 1, "one", [], (), [(1, 1)], {1}, {0: 1}, {3: 1}, {-1: 1}, {5: 1}, {1: 0}, {1: 100}, {1: -100},
+    {True: 1}, {1: True}, {2: False}, {1: 1.0}, {1.0: 1}, {"1": 1}, {1: "1"}, {1: None}, {None: 1}, {1: [1]},
+    {1: 1, 2: 0}, {1: 1, 3: 1}, {1: Stubborn()}, object(), Stubborn(),
 ]
 
 
@@ -92,8 +92,8 @@ class TestProducts(TurnedCase):
                 self.fails(BadPeriod, is_period_product, period, thing)
 
     def test_folded_by_hand(self):
-        for g, expected in ((1, (1, 1)), (3, (1, 2)), (4, (1, 1)), (6, (-1, 1)), (9, (-1, 1)), (-1, (-1, 1)), (-6, (1, 1)),
-                            (11, (1, 1)), (10 ** 40 + 2, (1, 2))):
+        for g, expected in ((1, (1, 1)), (3, (1, 2)), (4, (1, 1)), (6, (-1, 1)), (9, (-1, 1)), (-1, (-1, 1)),
+                            (-6, (1, 1)), (11, (1, 1)), (10 ** 40 + 2, (1, 2))):
             self.assertEqual(self.tell(folded, 5, g), expected)
         self.assertEqual(self.tell(folded, 2, 1), (1, 1))
         self.assertEqual(self.tell(folded, 2, 3), (-1, 1))
@@ -117,7 +117,8 @@ class TestProducts(TurnedCase):
     def test_folded_wrong(self):
         for g in (0, 5, -5, 10 ** 40 * 5, 10):
             self.fails(BadNumber, folded, 5, g)
-        self.fails_in_turn(folded, [5, 1], [(BadPeriod, NO_PERIODS), (BadNumber, NO_NUMBERS + [0, 5, -10, 5 * 10 ** 40])])
+        self.fails_in_turn(folded, [5, 1], [(BadPeriod, NO_PERIODS), (BadNumber,
+                                                                      NO_NUMBERS + [0, 5, -10, 5 * 10 ** 40])])
 
     def test_start_by_hand(self):
         self.assertEqual(self.tell(period_start, 5, {1: 1}), (1, 60))

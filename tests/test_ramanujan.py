@@ -161,7 +161,8 @@ class TestIsSpelling(TurnedCase):
         # Jacobi's sum in q ** 5, too; its weight and class are others.
         more = [(factor, {5 * d: r for d, r in quotient.items()}) for factor, quotient in jacobi]
         met = 0
-        for quotient, m, t in (({1: 24}, 2, 0), ({1: 2, 2: -1}, 5, 0), ({2: -1}, 5, 3), ({1: -2, 2: 1}, 3, 0), ({2: 1}, 2, 1)):
+        for quotient, m, t in (({1: 24}, 2, 0), ({1: 2, 2: -1}, 5, 0), ({2: -1}, 5, 3), ({1: -2, 2: 1}, 3, 0),
+                               ({2: 1}, 2, 1)):
             told = spelled(quotient, m, t)
             level = term_level(progression_term(quotient, m, t))
             for zero in (jacobi, more, jacobi + more, [((x, 7 * y), q) for (x, y), q in jacobi]):
@@ -196,7 +197,8 @@ class TestIsSpelling(TurnedCase):
         self.assertIs(is_spelling({2: 1}, 2, 1, ()), True)
 
     def test_of_any_value(self):
-        self.judges(is_spelling, [FIVE, tuple(FIVE)], [[[(5, 1), {1: -6, 5: 5}]], [((5, 1), ((1, -6), (5, 5)))], FIVE * 2],
+        self.judges(is_spelling, [FIVE, tuple(FIVE)], [[[(5, 1), {1: -6, 5: 5}]], [((5, 1), ((1, -6), (5, 5)))],
+                                                       FIVE * 2],
                     PARTITIONS, 5, 4)
         for wrong in NO_RATIOS:
             self.assertIs(is_spelling(PARTITIONS, 5, 4, [(wrong, {1: -6, 5: 5})]), False)

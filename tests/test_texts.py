@@ -16,20 +16,23 @@ from tests.test_terms import GREAT, RIGHT, some_term
 
 CHANCE = random.Random(120)
 SIXTY_ONE = 10 ** 61 - 1
-RATIOS = [((0, 1), "0"), ((5, 1), "5"), ((-5, 1), "-5"), ((1, 2), "1/2"), ((-3, 7), "-3/7"), ((10 ** 60, 7), "1" + "0" * 60 + "/7"),
-          ((SIXTY_ONE, 1), "9" * 61), ((-SIXTY_ONE, 10 ** 60), "-" + "9" * 61 + "/1" + "0" * 60)]
-QUOTIENTS = [({}, "one"), ({1: 24}, "1^24"), ({5: -1, 1: 5}, "1^5*5^-1"), ({360: -99, 2: 99, 10: 1}, "2^99*10^1*360^-99")]
+RATIOS = [((0, 1), "0"), ((5, 1), "5"), ((-5, 1), "-5"), ((1, 2), "1/2"), ((-3, 7), "-3/7"),
+          ((10 ** 60, 7), "1" + "0" * 60 + "/7"), ((SIXTY_ONE, 1), "9" * 61),
+          ((-SIXTY_ONE, 10 ** 60), "-" + "9" * 61 + "/1" + "0" * 60)]
+QUOTIENTS = [({}, "one"), ({1: 24}, "1^24"), ({5: -1, 1: 5}, "1^5*5^-1"),
+             ({360: -99, 2: 99, 10: 1}, "2^99*10^1*360^-99")]
 MATRICES = [((1, 0, 0, 1), "1,0,0,1"), ((0, -1, 1, 0), "0,-1,1,0"), ((-1, 7, 0, -1), "-1,7,0,-1")]
 TERMS = [
-    ((1, {}, ()), "1 [one]"), ((-7, {1: 24}, ()), "-7 [1^24]"), ((2, {}, (("four", 1), ("two", 4))), "2 [one] four(1) two(4)"),
+    ((1, {}, ()), "1 [one]"), ((-7, {1: 24}, ()), "-7 [1^24]"),
+    ((2, {}, (("four", 1), ("two", 4))), "2 [one] four(1) two(4)"),
     ((1, {1: -5}, (FIVE,)), "1 [1^-5] part(5,1^-1*5^5)"), ((1, {2: 1}, (("part", 60, ()),)), "1 [2^1] part(60,one)"),
     ((GREAT, {360: 1}, (("six", 360),) * 2), "1" + "0" * 60 + " [360^1] six(360) six(360)"),
     ((-GREAT, {2: 3, 1: -4}, (("six", 7),)), "-1" + "0" * 60 + " [1^-4*2^3] six(7)"),
 ]
-SUMS = [([], "zero"), (JACOBI, "1 [1^-8*2^20*4^-8] + -1 [1^8*2^-4] + -16 [2^-4*4^8]"), ([TERMS[1][0]] * 2, "-7 [1^24] + -7 [1^24]"),
-        ([TERMS[2][0], TERMS[0][0]], "2 [one] four(1) two(4) + 1 [one]")]
-BAD_NUMBERS = ["", "-", "+1", "01", "-0", "00", "1.0", "1e3", "1_0", " 1", "1 ", "--1", "0x1", "a", "\u0661", "\u00b2", "\uff11", "1\n",
-               "1" + "0" * 61, "-1" + "0" * 61]
+SUMS = [([], "zero"), (JACOBI, "1 [1^-8*2^20*4^-8] + -1 [1^8*2^-4] + -16 [2^-4*4^8]"),
+        ([TERMS[1][0]] * 2, "-7 [1^24] + -7 [1^24]"), ([TERMS[2][0], TERMS[0][0]], "2 [one] four(1) two(4) + 1 [one]")]
+BAD_NUMBERS = ["", "-", "+1", "01", "-0", "00", "1.0", "1e3", "1_0", " 1", "1 ", "--1", "0x1", "a", "\u0661", "\u00b2",
+               "\uff11", "1\n", "1" + "0" * 61, "-1" + "0" * 61]
 
 
 def figures(n):
@@ -153,38 +156,41 @@ class TestTextsOfNothing(TurnedCase):
             self.is_none(read_ratio, wrong, f"{wrong}/7", f"3/{wrong}")
             self.is_none(read_matrix, f"{wrong},0,0,1", f"1,{wrong},0,1", f"1,0,0,{wrong}")
             self.is_none(read_quotient, f"{wrong}^1", f"1^{wrong}", f"1^{wrong}*2^1", f"1^1*{wrong}^1")
-            self.is_none(read_term, f"{wrong} [one]", f"1 [{wrong}^1]", f"1 [one] four({wrong})", f"1 [one] part({wrong},1^24)",
-                         f"1 [one] part(5,1^{wrong})")
+            self.is_none(read_term, f"{wrong} [one]", f"1 [{wrong}^1]", f"1 [one] four({wrong})",
+                         f"1 [one] part({wrong},1^24)", f"1 [one] part(5,1^{wrong})")
             self.is_none(read_sum, f"{wrong} [one]", f"1 [one] + {wrong} [one]")
 
     def test_ratios(self):
-        self.is_none(read_ratio, "5/1", "2/4", "0/2", "1/0", "1/-2", "-1/-2", "1/2/3", "1//2", "/2", "1/", "/", "1 /2", "1/ 2", "one",
-                     "1,2", "0/1", "(1, 2)", "1/2 ", "--1/2", "9" * 62, "1/" + "9" * 62)
+        self.is_none(read_ratio, "5/1", "2/4", "0/2", "1/0", "1/-2", "-1/-2", "1/2/3", "1//2", "/2", "1/", "/", "1 /2",
+                     "1/ 2", "one", "1,2", "0/1", "(1, 2)", "1/2 ", "--1/2", "9" * 62, "1/" + "9" * 62)
 
     def test_quotients(self):
-        self.is_none(read_quotient, "", "One", "one ", " one", "1", "1^", "^1", "1^1*", "*1^1", "1^1**2^1", "1^1*1^1", "2^1*1^1", "1^0",
-                     "0^1", "361^1", "1^100", "1^-100", "1^1 *2^1", "1^1* 2^1", "1^1*one", "one*1^1", "1^1^1", "1:1", "-1^1", "zero", "{}",
-                     "1^1*2^1*2^1", "1^+1")
+        self.is_none(read_quotient, "", "One", "one ", " one", "1", "1^", "^1", "1^1*", "*1^1", "1^1**2^1", "1^1*1^1",
+                     "2^1*1^1", "1^0", "0^1", "361^1", "1^100", "1^-100", "1^1 *2^1", "1^1* 2^1", "1^1*one", "one*1^1",
+                     "1^1^1", "1:1", "-1^1", "zero", "{}", "1^1*2^1*2^1", "1^+1")
 
     def test_matrices(self):
-        self.is_none(read_matrix, "1,0,0", "1,0,0,1,0", "1,0,0,2", "(1,0,0,1)", "1, 0, 0, 1", "1;0;0;1", "", ",,,", "1,0,0,1,", "-1,0,0,1",
-                     "1,0,0,1 ", "2,0,0,2", "1,-0,0,1")
+        self.is_none(read_matrix, "1,0,0", "1,0,0,1,0", "1,0,0,2", "(1,0,0,1)", "1, 0, 0, 1", "1;0;0;1", "", ",,,",
+                     "1,0,0,1,", "-1,0,0,1", "1,0,0,1 ", "2,0,0,2", "1,-0,0,1")
 
     def test_terms(self):
-        self.is_none(read_term, "", "1", "1 ", "1[one]", "1  [one]", " 1 [one]", "1 [one] ", "1 [one", "1 one]", "1 one", "0 [one]", "1 []",
-                     "1 [1^0]", "1 [one]four(1)", "1 [one]  four(1)", "1 [one] four(0)", "1 [one] four", "1 [one] four()", "1 [one] four(1",
-                     "1 [one] four 1", "1 [one] (1)", "1 [one] two(1)", "1 [one] eight(1)", "1 [one] four(1,1^24)", "1 [one] part(5)",
+        self.is_none(read_term, "", "1", "1 ", "1[one]", "1  [one]", " 1 [one]", "1 [one] ", "1 [one", "1 one]",
+                     "1 one", "0 [one]", "1 []", "1 [1^0]", "1 [one]four(1)", "1 [one]  four(1)", "1 [one] four(0)",
+                     "1 [one] four", "1 [one] four()", "1 [one] four(1", "1 [one] four 1", "1 [one] (1)",
+                     "1 [one] two(1)", "1 [one] eight(1)", "1 [one] four(1,1^24)", "1 [one] part(5)",
                      "1 [one] part(5,)", "1 [one] part(5,1^-1)", "1 [one] part(1,1^24)", "1 [one] part(5,5^5*1^-1)",
-                     "1 [one] part(5, 1^24)", "1 [one] two(4) four(1)", "1 [one] six(1) four(1)", "1 [one] four(2) four(1)",
-                     "1 [one]" + " four(1)" * 7, "1 [19^1*20^1]", "1 [7^1] four(52)", "1 [one] + 1 [one]", "zero", "1 [[one]]",
-                     "1 [one] four(1))", "1 [one] four((1)", "1" + "0" * 59 + "1 [one]", "-1" + "0" * 59 + "1 [one]", "1 [2^1*1^1]",
-                     "1 [one] Four(1)", "1 [one] part(5,one,one)", "1 [one]\tfour(1)", "1 [one]\n", "1 [ one]", "1 ]one[", "1 [", "1 ]",
+                     "1 [one] part(5, 1^24)", "1 [one] two(4) four(1)", "1 [one] six(1) four(1)",
+                     "1 [one] four(2) four(1)", "1 [one]" + " four(1)" * 7, "1 [19^1*20^1]", "1 [7^1] four(52)",
+                     "1 [one] + 1 [one]", "zero", "1 [[one]]", "1 [one] four(1))", "1 [one] four((1)",
+                     "1" + "0" * 59 + "1 [one]", "-1" + "0" * 59 + "1 [one]", "1 [2^1*1^1]", "1 [one] Four(1)",
+                     "1 [one] part(5,one,one)", "1 [one]\tfour(1)", "1 [one]\n", "1 [ one]", "1 ]one[", "1 [", "1 ]",
                      "1 [one] four(360) four(7)")
 
     def test_sums(self):
-        self.is_none(read_sum, "", "Zero", "zero ", " zero", "zero + zero", "1 [one] + zero", "1 [one]+1 [one]", "1 [one] +1 [one]",
-                     "1 [one] + ", " + 1 [one]", "1 [one]  + 1 [one]", "1 [one] +  1 [one]", "1 [one] - 1 [one]", "1 [one] + + 1 [one]",
-                     "one", "1", " + ".join(["1 [one]"] * 41), "1 [one] + 1 [1^0]", "1 [one]\n+ 1 [one]")
+        self.is_none(read_sum, "", "Zero", "zero ", " zero", "zero + zero", "1 [one] + zero", "1 [one]+1 [one]",
+                     "1 [one] +1 [one]", "1 [one] + ", " + 1 [one]", "1 [one]  + 1 [one]", "1 [one] +  1 [one]",
+                     "1 [one] - 1 [one]", "1 [one] + + 1 [one]", "one", "1", " + ".join(["1 [one]"] * 41),
+                     "1 [one] + 1 [1^0]", "1 [one]\n+ 1 [one]")
         self.assertEqual(len(read_sum(" + ".join(["1 [one]"] * 40))), 40)
 
 
